@@ -1,0 +1,1 @@
+"""Sameface: hidden kinds, known by their faces alone."""

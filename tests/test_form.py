@@ -1,0 +1,150 @@
+"""The form of the package: those rules of the language that can be read off the code, and the interface."""
+
+import ast
+import pathlib
+import re
+import unittest
+
+PACKAGE = pathlib.Path(__file__).resolve().parent.parent / "sameface"
+
+BARRED_WORDS = (
+    "type|typing|typing_extensions|enum|Enum|IntEnum|StrEnum|Flag|IntFlag|Generic|Protocol|ABC|ABCMeta|namedtuple|"
+    "NamedTuple|TypedDict|TYPE_CHECKING|abstractmethod"
+)
+BARRED_NAMES = ("register", "mro", "elements", "open", "input", "law", "format", "chr", "float", "print", "hash", "id")
+BARRED_NODES = (
+    ast.Global,
+    ast.AsyncFunctionDef,
+    ast.Await,
+    ast.AsyncFor,
+    ast.AsyncWith,
+    ast.Div,
+    ast.MatMult,
+    ast.Import,
+)
+BUILTINS = (
+    "len range enumerate zip min max sum abs sorted reversed int str bool bytes list tuple dict set frozenset "
+    "isinstance ord repr any all divmod iter next super property staticmethod classmethod ValueError"
+).split()
+
+INTERFACE = {
+    "errors": "FaceError BadRow BadFace BadMaking BadUser BadSteps BadLead BadProgram BadModule BadUse BadInput "
+    "ToldApart BadPaper Refused OutOfPlace TooGreat",
+    "words": "is_whole is_among is_name number_of words_of",
+    "faces": "is_face need_face hidden_of names_of takes_of gives_of",
+    "facetext": "face_text read_face",
+    "exprs": "is_body parts_in depth_in value_of given_by",
+}
+
+
+def files():
+    for path in sorted(PACKAGE.iterdir()):
+        if path.name != "__pycache__":
+            yield path, path.read_text(encoding="utf-8")
+
+
+def bound_names(tree):
+    """Every name that a file binds or uses as an attribute."""
+    for node in ast.walk(tree):
+        if isinstance(node, ast.Name) and isinstance(node.ctx, ast.Store):
+            yield node.id
+        elif isinstance(node, (ast.FunctionDef, ast.ClassDef)):
+            yield node.name
+        elif isinstance(node, ast.arg):
+            yield node.arg
+        elif isinstance(node, ast.Attribute):
+            yield node.attr
+
+
+class FormTest(unittest.TestCase):
+    def test_files(self):
+        for path, text in files():
+            self.assertRegex(path.name, r"\A(__init__|[a-z][a-z0-9_]*)\.py\Z")
+            self.assertRegex(text, r"\A[ -~\n]*\Z", path)
+            self.assertLessEqual(len(text.splitlines()), 399, path)
+            for row in text.splitlines():
+                self.assertLessEqual(len(row), 120, path)
+            self.assertIsNone(re.search(rf"\b({BARRED_WORDS})\b|dataclass|overload|contextmanager", text), path)
+
+    def test_statements(self):
+        for path, text in files():
+            for node in ast.walk(ast.parse(text)):
+                self.assertNotIsInstance(node, BARRED_NODES, path)
+                if isinstance(node, ast.FunctionDef):
+                    self.assertLessEqual(node.end_lineno - node.lineno + 1, 40, (path, node.name))
+                if isinstance(node, ast.Constant):
+                    self.assertNotIsInstance(node.value, (float, complex), path)
+                    self.assertFalse(isinstance(node.value, str) and "%" in node.value, path)
+
+    def test_module_level(self):
+        allowed = (ast.ImportFrom, ast.FunctionDef, ast.ClassDef, ast.Assign, ast.Expr)
+        for path, text in files():
+            bound = []
+            for node in ast.parse(text).body:
+                self.assertIsInstance(node, allowed, path)
+                if isinstance(node, ast.Expr):
+                    self.assertIsInstance(node.value, ast.Constant, path)
+                elif isinstance(node, ast.ImportFrom):
+                    bound.extend(name.asname or name.name for name in node.names)
+                elif isinstance(node, ast.Assign):
+                    bound.append(node.targets[0].id)
+                else:
+                    bound.append(node.name)
+            self.assertEqual(len(bound), len(set(bound)), path)
+
+    def test_names(self):
+        for path, text in files():
+            for name in bound_names(ast.parse(text)):
+                self.assertNotIn(name, BARRED_NAMES, path)
+                if name != "__init__":
+                    self.assertRegex(name, r"\A[A-Za-z][A-Za-z0-9_]*\Z", path)
+                    self.assertNotIn(name, BUILTINS, path)
+
+    def test_used_names(self):
+        for path, text in files():
+            tree = ast.parse(text)
+            known = set(BUILTINS) | set(bound_names(tree))
+            for node in ast.walk(tree):
+                if isinstance(node, ast.ImportFrom):
+                    known |= {name.name for name in node.names}
+            for node in ast.walk(tree):
+                if isinstance(node, ast.Name):
+                    self.assertIn(node.id, known, path)
+
+    def test_imports(self):
+        defined = {}
+        for path, text in files():
+            defined[f"sameface.{path.stem}"] = {
+                node.targets[0].id if isinstance(node, ast.Assign) else getattr(node, "name", None)
+                for node in ast.parse(text).body
+            }
+        for path, text in files():
+            tree = ast.parse(text)
+            used = {node.id for node in ast.walk(tree) if isinstance(node, ast.Name)}
+            for node in ast.walk(tree):
+                if isinstance(node, ast.ImportFrom):
+                    self.assertEqual(node.level, 0, path)
+                    self.assertIn(node.module, defined, path)
+                    for name in node.names:
+                        self.assertIn(name.name, defined[node.module], path)
+                        self.assertIn(name.name, used, path)
+
+    def test_attributes_and_methods_have_unlike_names(self):
+        methods, attributes = set(), set()
+        for path, text in files():
+            for node in ast.walk(ast.parse(text)):
+                if isinstance(node, ast.ClassDef):
+                    methods |= {row.name for row in node.body if isinstance(row, ast.FunctionDef)}
+                if isinstance(node, ast.Attribute) and isinstance(node.ctx, ast.Store):
+                    attributes.add(node.attr)
+        self.assertEqual(methods & attributes, set())
+
+    def test_interface(self):
+        for stem, names in INTERFACE.items():
+            tree = ast.parse((PACKAGE / f"{stem}.py").read_text(encoding="utf-8"))
+            defined = {node.name for node in tree.body if isinstance(node, (ast.FunctionDef, ast.ClassDef))}
+            self.assertLessEqual(set(names.split()), defined, stem)
+
+
+if __name__ == "__main__":
+    unittest.main()
