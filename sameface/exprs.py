@@ -21,38 +21,33 @@ def word_of(thing):
     return None
 
 
-def expressions_in(thing, counts):
-    """What must be Es for anything to be an E, a list; None where it is none all the same."""
+def wanted_for_expression(thing, counts):
+    """What must be Es for anything to be an E, as pairs (THING, False); None where it is none all the same."""
     word = word_of(thing)
     if word == "number" and len(thing) == 2 and is_among(thing[1], 0, 99):
         return []
     if word == "in" and len(thing) == 3 and is_handed(thing[1], thing[2], counts):
         return []
     if word == "rest" and len(thing) == 3 and is_among(thing[2], 2, 99):
-        return [thing[1]]
+        return [(thing[1], False)]
     if word in INNER_COUNTS and len(thing) == INNER_COUNTS[word] + 1:
-        return list(thing[1:])
+        return [(expression, False) for expression in thing[1:]]
     return None
 
 
-def wanted_in(thing, is_of_body, counts, many):
-    """What must be Es and bodies for anything to be one, as pairs (THING, whether it is to be a body).
+def wanted_for_body(thing, many):
+    """What must be Es and bodies for anything to be a body, as pairs (THING, whether it must be a body).
 
     None where it is none all the same.
     """
     word = word_of(thing)
-    if is_of_body and word == "refuse" and len(thing) == 1:
+    if word == "refuse" and len(thing) == 1:
         return []
-    if is_of_body and word == "when" and len(thing) == 4:
+    if word == "give" and len(thing) == 2 and is_tuple_of(thing[1], many, many):
+        return [(expression, False) for expression in thing[1]]
+    if word == "when" and len(thing) == 4:
         return [(thing[1], False), (thing[2], True), (thing[3], True)]
-    inner = None
-    if not is_of_body:
-        inner = expressions_in(thing, counts)
-    elif word == "give" and len(thing) == 2 and is_tuple_of(thing[1], many, many):
-        inner = thing[1]
-    if inner is None:
-        return None
-    return [(expression, False) for expression in inner]
+    return None
 
 
 def is_body(thing, counts, many):
@@ -62,8 +57,8 @@ def is_body(thing, counts, many):
     parts = 1
     for deep in range(MOST_DEEP):
         below = []
-        for part, is_of_body in level:
-            wanted = wanted_in(part, is_of_body, counts, many)
+        for part, must_be_body in level:
+            wanted = wanted_for_body(part, many) if must_be_body else wanted_for_expression(part, counts)
             if wanted is None:
                 return False
             parts += len(wanted)

@@ -45,3 +45,44 @@ class FieldsCase(unittest.TestCase):
     def same_form(self, one, other):
         """Equal, and of the same classes all through: True is no 1, a list no tuple."""
         self.assertEqual(repr(one), repr(other))
+
+
+# A making of FACE: a bag is a count below 4 and a mark below 3, a key a number below 2.
+MAKING = (
+    ((4, 3), (2,)),
+    (
+        (
+            "when",
+            ("same", ("in", 1, 0), ("number", 2)),
+            ("refuse",),
+            ("give", (("plus", ("in", 0, 0), ("number", 1)), ("less", ("in", 0, 1), ("in", 1, 0)))),
+        ),
+        (
+            "give",
+            (
+                ("if", ("in", 2, 0), ("in", 0, 0), ("in", 1, 0)),
+                ("times", ("number", 5), ("less", ("in", 0, 1), ("in", 1, 1))),
+            ),
+        ),
+        ("give", (("number", 3),)),
+        ("give", (("number", 0), ("number", 0))),
+        (
+            "when",
+            ("in", 1, 0),
+            ("give", (("less", ("rest", ("in", 0, 0), 3), ("number", 4)),)),
+            ("give", (("under", ("in", 0, 0), ("in", 0, 1)),)),
+        ),
+    ),
+)
+
+MAKING_TEXT = "\n".join(
+    [
+        "shape bag 4 3",
+        "shape key 2",
+        "add when same in 1 0 2 refuse give plus in 0 0 1 , less in 0 1 in 1 0",
+        "both give if in 2 0 in 0 0 in 1 0 , times 5 less in 0 1 in 1 1",
+        "key give 3",
+        "new give 0 , 0",
+        "open when in 1 0 give less rest in 0 0 3 4 give under in 0 0 in 0 1",
+    ]
+)

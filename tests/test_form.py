@@ -34,6 +34,11 @@ INTERFACE = {
     "faces": "is_face need_face hidden_of names_of takes_of gives_of",
     "facetext": "face_text read_face",
     "exprs": "is_body parts_in depth_in value_of given_by",
+    "makings": "is_making need_making shape_of worths_of is_worth body_of",
+    "makingtext": "making_text read_making",
+    "doing": "done",
+    "users": "is_user need_user kind_told",
+    "usertext": "user_text read_user",
 }
 
 

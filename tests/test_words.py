@@ -22,6 +22,11 @@ class WholeTest(unittest.TestCase):
     def test_among_none(self):
         self.assertIs(is_among(0, 0, -1), False)
 
+    def test_among_what_are_no_numbers(self):
+        for thing in (*MORE_ODD, "1"):
+            self.assertIs(is_among(1, thing, 9), False)
+            self.assertIs(is_among(1, 0, thing), False)
+
     def test_truths_are_among_nothing(self):
         self.assertIs(is_among(True, 0, 4), False)
         self.assertIs(is_among(False, 0, 4), False)
