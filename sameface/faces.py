@@ -94,10 +94,15 @@ def names_of(face):
     return [deed[0] for deed in face[1]]
 
 
-def hidden_number(face, kind):
-    """The number, from 0, of a hidden kind of a right face; anything else is refused."""
+def need_hidden(face, kind):
+    """Refuse what is no hidden kind of a right face."""
     if not is_hidden(kind, face[0]):
         raise OutOfPlace("no hidden kind of the face is called so")
+
+
+def hidden_number(face, kind):
+    """The number, from 0, of a hidden kind of a right face; anything else is refused."""
+    need_hidden(face, kind)
     return face[0].index(kind)
 
 

@@ -57,13 +57,18 @@ def is_user(face, thing):
     return user_fault(face, thing) is None
 
 
-def need_user(face, user):
-    """Refuse what is no face, then what is no user of it."""
-    need_face(face)
+def refuse_no_user(face, user):
+    """Refuse what is no user of a right face."""
     fault = user_fault(face, user)
     if fault is not None:
         row, place = fault
         raise BadUser(row, place)
+
+
+def need_user(face, user):
+    """Refuse what is no face, then what is no user of it."""
+    need_face(face)
+    refuse_no_user(face, user)
 
 
 def kind_told(face, user):

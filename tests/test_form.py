@@ -27,18 +27,37 @@ BUILTINS = (
     "isinstance ord repr any all divmod iter next super property staticmethod classmethod ValueError"
 ).split()
 
+METHODS = (
+    "append clear copy count endswith extend find get index insert isalnum isalpha isdigit islower isspace isupper "
+    "items join keys ljust lower lstrip partition pop remove replace reverse rfind rjust rpartition rsplit rstrip "
+    "setdefault split splitlines startswith strip update upper values zfill bit_length isascii sort add discard"
+).split()
+# What is iterated on the spot, and where it may stand for it.
+ITERATED = ("zip", "enumerate", "reversed", "range")
+ITERATING = ("list", "tuple", "dict", "sorted", "sum", "any", "all", "enumerate", "zip", "min", "max")
+
 INTERFACE = {
     "errors": "FaceError BadRow BadFace BadMaking BadUser BadSteps BadLead BadProgram BadModule BadUse BadInput "
     "ToldApart BadPaper Refused OutOfPlace TooGreat",
-    "words": "is_whole is_among is_name number_of words_of",
-    "faces": "is_face need_face hidden_of names_of takes_of gives_of",
-    "facetext": "face_text read_face",
-    "exprs": "is_body parts_in depth_in value_of given_by",
-    "makings": "is_making need_making shape_of worths_of is_worth body_of",
-    "makingtext": "making_text read_making",
-    "doing": "done",
-    "users": "is_user need_user kind_told",
-    "usertext": "user_text read_user",
+    "words": "is_whole(thing) is_among(thing, least, most) is_name(thing) number_of(word) words_of(row)",
+    "faces": "is_face(thing) need_face(face) hidden_of(face) names_of(face) takes_of(face, name) gives_of(face, name)",
+    "facetext": "face_text(face) read_face(text)",
+    "exprs": "is_body(thing, counts, many) parts_in(body) depth_in(body) value_of(expression, fields) "
+    "given_by(body, fields)",
+    "makings": "is_making(face, thing) need_making(face, making) shape_of(face, making, kind) "
+    "worths_of(face, making, kind) is_worth(face, making, kind, thing) body_of(face, making, name)",
+    "makingtext": "making_text(face, making) read_making(face, text)",
+    "doing": "done(face, making, name, handed)",
+    "users": "is_user(face, thing) need_user(face, user) kind_told(face, user)",
+    "usertext": "user_text(face, user) read_user(face, text)",
+    "running": "outcome(face, making, user)",
+    "coming": "come_to(face, making, kind) level_of(face, making, kind, worth) way_of(face, making, kind, worth) "
+    "first_user(face, making, kind, worth)",
+    "related": "least_relation(face, one, other) is_same(face, one, other) apart(face, one, other) "
+    "keeps(face, one, other, relation, name)",
+    "samepaper": "same_paper(face, one, other)",
+    "samecheck": "check_paper(face, one, other, paper)",
+    "alike": "are_alike(face, making, kind, worth, other) classes_of(face, making, kind)",
 }
 
 
@@ -144,11 +163,59 @@ class FormTest(unittest.TestCase):
                     attributes.add(node.attr)
         self.assertEqual(methods & attributes, set())
 
+    def test_methods(self):
+        trees = {path: ast.parse(text) for path, text in files()}
+        own = set(METHODS) | {"__init__"}
+        for tree in trees.values():
+            for node in ast.walk(tree):
+                if isinstance(node, ast.ClassDef):
+                    own |= {row.name for row in node.body if isinstance(row, ast.FunctionDef)}
+        for path, tree in trees.items():
+            for node in ast.walk(tree):
+                if isinstance(node, ast.Call) and isinstance(node.func, ast.Attribute):
+                    self.assertIn(node.func.attr, own, path)
+
+    def test_iterated_on_the_spot(self):
+        for path, text in files():
+            tree = ast.parse(text)
+            generators = [
+                node.name
+                for node in tree.body
+                if isinstance(node, ast.FunctionDef) and any(isinstance(part, ast.Yield) for part in ast.walk(node))
+            ]
+            places = []
+            for node in ast.walk(tree):
+                if isinstance(node, (ast.For, ast.comprehension)):
+                    places.append(node.iter)
+                elif isinstance(node, ast.Call) and isinstance(node.func, ast.Name) and node.func.id in ITERATING:
+                    places.extend(node.args[:1])
+            for node in ast.walk(tree):
+                if isinstance(node, ast.Call) and isinstance(node.func, ast.Name):
+                    if node.func.id in (*ITERATED, *generators):
+                        self.assertIn(node, places, (path, node.lineno))
+
+    def test_calls_pass_what_is_taken(self):
+        taken = {}
+        for path, text in files():
+            for node in ast.walk(ast.parse(text)):
+                if isinstance(node, ast.FunctionDef):
+                    taken.setdefault(node.name, set()).add(len(node.args.args))
+        for path, text in files():
+            for node in ast.walk(ast.parse(text)):
+                if isinstance(node, ast.Call) and isinstance(node.func, ast.Name) and node.func.id in taken:
+                    self.assertEqual({len(node.args)}, taken[node.func.id], (path, node.lineno))
+                elif isinstance(node, ast.Call) and isinstance(node.func, ast.Attribute) and node.func.attr in taken:
+                    if node.func.attr != "__init__":
+                        self.assertEqual({len(node.args) + 1}, taken[node.func.attr], (path, node.lineno))
+
     def test_interface(self):
         for stem, names in INTERFACE.items():
             tree = ast.parse((PACKAGE / f"{stem}.py").read_text(encoding="utf-8"))
-            defined = {node.name for node in tree.body if isinstance(node, (ast.FunctionDef, ast.ClassDef))}
-            self.assertLessEqual(set(names.split()), defined, stem)
+            defined = {node.name for node in tree.body if isinstance(node, ast.ClassDef)}
+            for node in tree.body:
+                if isinstance(node, ast.FunctionDef):
+                    defined.add(f"{node.name}({ast.unparse(node.args)})")
+            self.assertLessEqual(set(re.findall(r"[a-zA-Z_]+(?:\([^)]*\))?", names)), defined, stem)
 
 
 if __name__ == "__main__":
