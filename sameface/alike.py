@@ -62,6 +62,10 @@ class Classes:
         classes = self.groupings[-1][kind]
         return classes[one] == classes[other]
 
+    def fewest_steps(self, kind, one, other):
+        """How few steps tell two come-to worths apart that aren't alike, by their numbers."""
+        return [grouping[kind][one] == grouping[kind][other] for grouping in self.groupings].index(False)
+
     def members_of(self, kind):
         """For each class a list of its worths' numbers."""
         classes = self.groupings[-1][kind]

@@ -161,9 +161,9 @@ def chance_user(rng, face, most):
     for step in range(most * 3):
         name, takes, gives = rng.choice(face[1])
         ahead = [[row for row, told in enumerate(given) if told == kind] for kind in takes]
-        if all(rows_of or kind not in face[0] for kind, rows_of in zip(takes, ahead)) and len(rows) < most:
-            handed = [rng.choice(rows_of) if kind in face[0] else rng.randrange(kind) for kind, rows_of in zip(takes, ahead)]
-            rows.append((name, tuple(handed)))
+        choices = [from_rows if kind in face[0] else range(kind) for kind, from_rows in zip(takes, ahead)]
+        if all(choices) and len(rows) < most:
+            rows.append((name, tuple(rng.choice(things) for things in choices)))
             given.append(gives)
     return tuple(rows) if rows else None
 
@@ -196,6 +196,7 @@ class Plainly:
     def __init__(self, face, *makings):
         self.face = face
         self.makings = makings
+        self.known = {}
         self.things = {kind: [] for kind in face[0]}
         self.levels = {kind: [] for kind in face[0]}
         self.ways = {kind: [] for kind in face[0]}
@@ -213,8 +214,14 @@ class Plainly:
         given = []
         for at, making in enumerate(self.makings):
             handed = [self.things[kind][n][at] if kind in self.things else n for kind, n in zip(deed[1], way)]
-            given.append(done(self.face, making, deed[0], tuple(handed)))
+            given.append(self.done(at, deed[0], tuple(handed)))
         return tuple(given)
+
+    def done(self, at, name, handed):
+        """What a deed gives by one of the makings; asked once of each."""
+        if (at, name, handed) not in self.known:
+            self.known[(at, name, handed)] = done(self.face, self.makings[at], name, handed)
+        return self.known[(at, name, handed)]
 
     def level_for(self, deed, way):
         levels = [self.levels[kind][n] for kind, n in zip(deed[1], way) if kind in self.levels]
@@ -275,10 +282,11 @@ class Plainly:
         """What a step gives with a worth, by the first making."""
         name, place, others = step
         takes = next(deed[1] for deed in self.face[1] if deed[0] == name)
-        numbers = [*others[:place], None, *others[place:]]
-        handed = [self.things[kind][n][0] if kind in self.things and n is not None else n for kind, n in zip(takes, numbers)]
-        handed[place] = worth
-        return done(self.face, self.makings[0], name, tuple(handed))
+        handed = []
+        for kind, number in zip(takes[:place] + takes[place + 1 :], others):
+            handed.append(self.things[kind][number][0] if kind in self.things else number)
+        handed.insert(place, worth)
+        return self.done(0, name, tuple(handed))
 
     def tells(self, steps, one, other):
         """Whether steps tell two worths apart."""

@@ -58,6 +58,12 @@ INTERFACE = {
     "samepaper": "same_paper(face, one, other)",
     "samecheck": "check_paper(face, one, other, paper)",
     "alike": "are_alike(face, making, kind, worth, other) classes_of(face, making, kind)",
+    "contexts": "first_context(face, making, kind, worth, other) is_telling(face, making, kind, worth, other, steps)",
+    "leastmaking": "least_making(face, making)",
+    "leading": "leads(face, one, other) is_good(face, one, other, leading) need_good(face, one, other, leading)",
+    "fewer": "fewer_face(face, names) fewer_making(face, making, names)",
+    "leaks": "leaks(face, making, names) leans(face, making, names, kind, steps) is_silent(face, making, names) "
+    "needed(face, making)",
 }
 
 

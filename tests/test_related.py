@@ -51,7 +51,9 @@ def wheels(a, b, ask=0):
     """A making in which a goes round by one of these rows, b by a number."""
     shape, go, new = a
     return read_making(
-        WHEELS, f"shape a {shape}\nshape b {b}\nask give {ask}\ngo {go}\nnew give {new}\nrun give plus in 0 0 1\nzero give 0"
+        WHEELS,
+        f"shape a {shape}\nshape b {b}\nask give {ask}\ngo {go}\nnew give {new}\n"
+        "run give plus in 0 0 1\nzero give 0",
     )
 
 
@@ -92,7 +94,8 @@ class SameTest(FieldsCase):
         # The same, though the one goes on where both refuse: neither comes there.
         face = read_face("hidden a\ngo a : a\nnew : a\nsee a : 5")
         one = read_making(face, "shape a 3\ngo when in 0 0 refuse give 1\nnew give 0\nsee give in 0 0")
-        other = read_making(face, "shape a 5\ngo when under 3 in 0 0 give 4 when in 0 0 refuse give 1\nnew give 0\nsee give in 0 0")
+        go = "when under 3 in 0 0 give 4 when in 0 0 refuse give 1"
+        other = read_making(face, f"shape a 5\ngo {go}\nnew give 0\nsee give in 0 0")
         self.same(face, one, other, ((((0,), (0,)), ((1,), (1,))),))
 
     def test_two_hidden_kinds(self):
@@ -132,7 +135,7 @@ class ApartTest(FieldsCase):
         # 1 + 2 doesn't fit nor does 2 + 2: the first way of level 2 on which the full one refuses.
         self.apart_by(BOX, WHOLE, FULL, (("new", ()), ("add", (0, 2)), ("add", (1, 2))))
         one = wheels(THIRTEEN, 4)
-        stops = ("4 4", "when same in 0 0 3 refuse when same in 0 1 3 give plus in 0 0 1 , 0 give in 0 0 , plus in 0 1 1", "0 , 0")
+        stops = ("4 4", THIRTEEN[1].replace("when same in 0 0 3 give 0 , 0", "when same in 0 0 3 refuse"), "0 , 0")
         rows = [("new", ())] + [("go", (row,)) for row in range(13)]
         self.apart_by(WHEELS, one, wheels(stops, 4), tuple(rows))
 
@@ -238,7 +241,8 @@ def kept_plainly(face, one, other, relation, name):
     """Whether a deed keeps a relation, by all that it can be handed."""
     related = dict(zip(face[0], relation))
     takes, gives = next(deed[1:] for deed in face[1] if deed[0] == name)
-    for handed in itertools.product(*[related[kind] if kind in related else zip(range(kind), range(kind)) for kind in takes]):
+    choices = [related[kind] if kind in related else [(number, number) for number in range(kind)] for kind in takes]
+    for handed in itertools.product(*choices):
         first = done(face, one, name, tuple(pair[0] for pair in handed))
         second = done(face, other, name, tuple(pair[1] for pair in handed))
         if gives in related and first is not None and second is not None:

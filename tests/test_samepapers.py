@@ -75,7 +75,8 @@ class CheckTest(FieldsCase):
     def test_no_relation(self):
         pair = ((0,), (0, 0))
         more = ((0,), (0, 1))
-        told = (((pair,), ()), ([pair],), [(pair,)], ((pair, pair),), ((more, pair),), ((((0, 0), (0,)),),), ((pair, 1),))
+        told = (((pair,), ()), ([pair],), [(pair,)], ((pair, pair),), ((more, pair),), ((((0, 0), (0,)),),))
+        told = (*told, ((pair, 1),))
         for relation in (*ODD_THINGS, 1, "ab", (), *told, (((((4,), (0, 0))),),), ((((0,), (0, True)),),)):
             self.bad(None, ("same", relation))
 
@@ -124,9 +125,11 @@ class CheckTest(FieldsCase):
 
     def test_a_great_relation_is_no_hindrance(self):
         one, other = wheels(THIRTEEN, 3), wheels(TEN, 7)
-        pairs = [tuple(itertools.product(worths_of(WHEELS, one, kind), worths_of(WHEELS, other, kind))) for kind in "ab"]
-        self.let_by(("same", tuple(pairs)), one, other, WHEELS)
-        self.bad(0, ("same", tuple(pairs)), one, wheels(TEN, 7, 1), WHEELS)
+        everything = tuple(
+            tuple(itertools.product(worths_of(WHEELS, one, kind), worths_of(WHEELS, other, kind))) for kind in "ab"
+        )
+        self.let_by(("same", everything), one, other, WHEELS)
+        self.bad(0, ("same", everything), one, wheels(TEN, 7, 1), WHEELS)
         self.let_by(("apart", (("new", ()), ("ask", ()))), one, wheels(TEN, 7, 1), WHEELS)
 
     def test_users_that_dont_tell_apart(self):
