@@ -1,72 +1,82 @@
 """Es and bodies: what they are, how great they are, what they tell."""
 
-from sameface.words import is_among, is_tuple_of
-
 MOST_PARTS = 60
 MOST_DEEP = 8
 
 # How many Es stand behind those words of an E behind which nothing else stands.
 INNER_COUNTS = {"plus": 2, "less": 2, "times": 2, "same": 2, "under": 2, "if": 3}
+PAIR_WORDS = ("plus", "less", "times", "same", "under")
 
 
-def is_handed(thing, number, counts):
-    """Whether there is such a field of such a thing among what is handed in."""
-    return is_among(thing, 0, len(counts) - 1) and is_among(number, 0, counts[thing] - 1)
+# Of all that is looked at most are Es: so what they ask is written out, and the last E in one needs no call.
+def left_by_expression(thing, takes, counts, deep, left):
+    """How many parts may stand behind a thing that must be an E, where so many may stand from it on.
 
-
-def word_of(thing):
-    """The word that anything begins with, where it is a tuple, else None."""
-    if is_tuple_of(thing, 1, 4) and isinstance(thing[0], str):
-        return thing[0]
-    return None
-
-
-def wanted_for_expression(thing, counts):
-    """What must be Es for anything to be an E, as pairs (THING, False); None where it is none all the same."""
-    word = word_of(thing)
-    if word == "number" and len(thing) == 2 and is_among(thing[1], 0, 99):
-        return []
-    if word == "in" and len(thing) == 3 and is_handed(thing[1], thing[2], counts):
-        return []
-    if word == "rest" and len(thing) == 3 and is_among(thing[2], 2, 99):
-        return [(thing[1], False)]
-    if word in INNER_COUNTS and len(thing) == INNER_COUNTS[word] + 1:
-        return [(expression, False) for expression in thing[1:]]
-    return None
-
-
-def wanted_for_body(thing, many):
-    """What must be Es and bodies for anything to be a body, as pairs (THING, whether it must be a body).
-
-    None where it is none all the same.
+    Below 0 where it is none, is more than so deep, or has too many parts: then it is looked at no further.
+    Things of the kinds that are taken have as many fields as the counts tell of their kind, or one.
     """
-    word = word_of(thing)
-    if word == "refuse" and len(thing) == 1:
-        return []
-    if word == "give" and len(thing) == 2 and is_tuple_of(thing[1], many, many):
-        return [(expression, False) for expression in thing[1]]
+    while isinstance(thing, tuple):
+        size = len(thing)
+        if size == 3:
+            word, first, second = thing
+            if word == "in":
+                if isinstance(first, int) and isinstance(second, int) and 0 <= first < len(takes):
+                    if first is not True and first is not False and second is not True and second is not False:
+                        return left - 1 if 0 <= second < counts.get(takes[first], 1) else -1
+                return -1
+            if deep < 2 or left < 1:
+                return -1
+            deep -= 1
+            left -= 1
+            if word in PAIR_WORDS:
+                left = left_by_expression(first, takes, counts, deep, left)
+                thing = second
+            elif word == "rest" and isinstance(second, int) and 2 <= second <= 99:
+                thing = first
+            else:
+                return -1
+        elif size == 2:
+            word, first = thing
+            fits = word == "number" and isinstance(first, int) and 0 <= first <= 99
+            return left - 1 if fits and first is not True and first is not False else -1
+        elif size == 4 and thing[0] == "if" and deep > 1 and left > 0:
+            deep -= 1
+            left = left_by_expression(thing[1], takes, counts, deep, left - 1)
+            left = left_by_expression(thing[2], takes, counts, deep, left)
+            thing = thing[3]
+        else:
+            return -1
+    return -1
+
+
+def left_by_body(thing, takes, counts, many, deep, left):
+    """How many parts may stand behind a thing that must be a body, as of an E."""
+    if not isinstance(thing, tuple) or not thing or left < 1:
+        return -1
+    word = thing[0]
+    if word == "refuse":
+        return left - 1 if len(thing) == 1 else -1
+    if deep < 2:
+        return -1
+    deep -= 1
+    left -= 1
+    if word == "give" and len(thing) == 2 and isinstance(thing[1], tuple) and len(thing[1]) == many:
+        for expression in thing[1]:
+            if left < 1:
+                return -1
+            left = left_by_expression(expression, takes, counts, deep, left)
+        return left
     if word == "when" and len(thing) == 4:
-        return [(thing[1], False), (thing[2], True), (thing[3], True)]
-    return None
+        left = left_by_expression(thing[1], takes, counts, deep, left)
+        left = left_by_body(thing[2], takes, counts, many, deep, left)
+        return left_by_body(thing[3], takes, counts, many, deep, left)
+    return -1
 
 
 def is_body(thing, counts, many):
     """Whether anything is a body that gives so many fields."""
-    # Level by level, counted ahead of a look at any: so a thing of whatever size is soon done with.
-    level = [(thing, True)]
-    parts = 1
-    for deep in range(MOST_DEEP):
-        below = []
-        for part, must_be_body in level:
-            wanted = wanted_for_body(part, many) if must_be_body else wanted_for_expression(part, counts)
-            if wanted is None:
-                return False
-            parts += len(wanted)
-            if parts > MOST_PARTS:
-                return False
-            below.extend(wanted)
-        level = below
-    return not level
+    takes = list(range(len(counts)))
+    return left_by_body(thing, takes, dict(enumerate(counts)), many, MOST_DEEP, MOST_PARTS) >= 0
 
 
 def parts_below(level):
@@ -101,20 +111,16 @@ def depth_in(body):
 def value_of(expression, fields):
     """The number that an E tells."""
     word = expression[0]
-    if word == "number":
-        return expression[1]
     if word == "in":
         return fields[expression[1]][expression[2]]
+    if word == "number":
+        return expression[1]
     first = value_of(expression[1], fields)
     if word == "rest":
         return first % expression[2]
     if word == "if":
         return value_of(expression[2 if first != 0 else 3], fields)
-    return value_of_two(word, first, value_of(expression[2], fields))
-
-
-def value_of_two(word, first, second):
-    """The number that a word tells of two numbers."""
+    second = value_of(expression[2], fields)
     if word == "plus":
         return first + second
     if word == "less":
@@ -126,10 +132,16 @@ def value_of_two(word, first, second):
     return 1 if first < second else 0
 
 
-def given_by(body, fields):
-    """What each E of a body tells, a tuple; None where the body refuses."""
+def chosen_by(body, fields):
+    """The Es that a body gives, a tuple; None where it refuses."""
     while body[0] == "when":
         body = body[2 if value_of(body[1], fields) != 0 else 3]
-    if body[0] == "refuse":
+    return None if body[0] == "refuse" else body[1]
+
+
+def given_by(body, fields):
+    """What each E of a body tells, a tuple; None where the body refuses."""
+    chosen = chosen_by(body, fields)
+    if chosen is None:
         return None
-    return tuple([value_of(expression, fields) for expression in body[1]])
+    return tuple([value_of(expression, fields) for expression in chosen])

@@ -1,64 +1,75 @@
 """Plain and hidden kinds, deeds, and faces."""
 
 from sameface.errors import BadFace, OutOfPlace
-from sameface.words import is_among, is_name, is_next_name, is_tuple_of
+from sameface.words import is_name
 
 MOST_DEEDS = 8
 
 
 def is_hidden(thing, hidden):
     """Whether anything is one of these hidden kinds."""
-    return is_name(thing) and thing in hidden
+    return isinstance(thing, str) and thing in hidden
 
 
 def is_kind(thing, hidden):
     """Whether anything is a plain kind, or one of these hidden ones."""
-    return is_among(thing, 2, 9) or is_hidden(thing, hidden)
+    if isinstance(thing, str):
+        return thing in hidden
+    # True and False are 1 and 0, out of these bounds.
+    return isinstance(thing, int) and 2 <= thing <= 9
+
+
+# Faces are looked at by the thousand: so what each deed is asked is written out, but for the kind that it gives.
+def first_bad_deed(deeds, hidden):
+    """The number of the first thing that can't be a deed, by itself or behind the one ahead; None where all can."""
+    ahead = ""
+    for number, deed in enumerate(deeds):
+        if not isinstance(deed, tuple) or len(deed) != 3:
+            return number
+        name, takes, gives = deed
+        if not isinstance(name, str) or len(name) > 8 or name <= ahead:
+            return number
+        if not name.isalpha() or not name.islower() or not name.isascii():
+            return number
+        if not isinstance(takes, tuple) or len(takes) > 3 or not is_kind(gives, hidden):
+            return number
+        many = 0
+        for kind in takes:
+            if isinstance(kind, str):
+                if kind not in hidden:
+                    return number
+                many += 1
+            elif not isinstance(kind, int) or not 2 <= kind <= 9:
+                return number
+        if many > 2:
+            return number
+        ahead = name
+    return None
 
 
 def are_takes(thing, hidden):
     """Whether anything is a tuple of kinds that a deed can take."""
-    if not is_tuple_of(thing, 0, 3) or not all(is_kind(kind, hidden) for kind in thing):
-        return False
-    return len([kind for kind in thing if is_hidden(kind, hidden)]) <= 2
-
-
-def is_deed(thing, hidden, ahead):
-    """Whether anything is a deed whose NAME rises behind the one ahead."""
-    if not is_tuple_of(thing, 3, 3):
-        return False
-    name, takes, gives = thing
-    return is_next_name(name, ahead) and are_takes(takes, hidden) and is_kind(gives, hidden)
+    return first_bad_deed((("a", thing, 2),), hidden) is None
 
 
 def first_bad_hidden(hidden):
     """The number of the first thing that can't be a hidden kind, or None."""
     ahead = ""
     for number, name in enumerate(hidden):
-        if not is_next_name(name, ahead):
+        if not is_name(name) or name <= ahead:
             return number
         ahead = name
     return None
 
 
-def first_bad_deed(deeds, hidden):
-    """The number of the first thing that can't be a deed, or None."""
-    ahead = ""
-    for number, deed in enumerate(deeds):
-        if not is_deed(deed, hidden, ahead):
-            return number
-        ahead = deed[0]
-    return None
-
-
 def face_fault(thing):
     """The fields of the BadFace that is due, None of a face."""
-    if not is_tuple_of(thing, 2, 2):
+    if not isinstance(thing, tuple) or len(thing) != 2:
         return (None, None)
     hidden, deeds = thing
-    if not is_tuple_of(hidden, 1, 2):
+    if not isinstance(hidden, tuple) or not 1 <= len(hidden) <= 2:
         return ("hidden", None)
-    if not is_tuple_of(deeds, 1, MOST_DEEDS):
+    if not isinstance(deeds, tuple) or not 1 <= len(deeds) <= MOST_DEEDS:
         return ("deeds", None)
     number = first_bad_hidden(hidden)
     if number is not None:
@@ -108,9 +119,10 @@ def hidden_number(face, kind):
 
 def find_deed(face, name):
     """The number, from 0, of the deed of a right face so called; None where anything else is asked."""
-    names = [deed[0] for deed in face[1]]
-    if is_name(name) and name in names:
-        return names.index(name)
+    if isinstance(name, str):
+        for number, deed in enumerate(face[1]):
+            if deed[0] == name:
+                return number
     return None
 
 

@@ -1,18 +1,17 @@
 """Shapes, worths, and makings of a face."""
 
 from sameface.errors import BadMaking
-from sameface.exprs import is_body
+from sameface.exprs import MOST_DEEP, MOST_PARTS, left_by_body
 from sameface.faces import deed_number, hidden_number, need_face
-from sameface.words import is_among, is_tuple_of, is_whole
 
 
 def is_shape(thing):
     """Whether anything is a shape."""
-    if not is_tuple_of(thing, 1, 3):
+    if not isinstance(thing, tuple) or not 1 <= len(thing) <= 3:
         return False
     product = 1
     for bound in thing:
-        if not is_among(bound, 2, 9):
+        if not isinstance(bound, int) or not 2 <= bound <= 9:
             return False
         product *= bound
     return product <= 16
@@ -20,44 +19,44 @@ def is_shape(thing):
 
 def fits_shape(shape, thing):
     """Whether anything is a worth by a shape."""
-    if not is_tuple_of(thing, len(shape), len(shape)):
+    if not isinstance(thing, tuple) or len(thing) != len(shape):
         return False
-    return all([is_among(field, 0, bound - 1) for field, bound in zip(thing, shape)])
+    for field, bound in zip(thing, shape):
+        if not isinstance(field, int) or not 0 <= field < bound or field is True or field is False:
+            return False
+    return True
 
 
 def bounds_for(face, shapes, kind):
     """The bounds of a kind's fields; a number of a plain kind N is one field below N."""
-    if is_whole(kind):
-        return (kind,)
-    return shapes[face[0].index(kind)]
+    if isinstance(kind, str):
+        return shapes[face[0].index(kind)]
+    return (kind,)
 
 
-def field_counts(face, shapes, takes):
-    """How many fields each thing has that a deed is handed."""
-    return tuple([len(bounds_for(face, shapes, kind)) for kind in takes])
-
-
-def is_body_of(thing, face, shapes, deed):
-    """Whether anything is a body of a deed by these shapes."""
-    takes, gives = deed[1:]
-    return is_body(thing, field_counts(face, shapes, takes), len(bounds_for(face, shapes, gives)))
+def field_counts(hidden, shapes):
+    """How many fields a thing of each hidden kind has; of a plain kind, of which nothing is told, it has one."""
+    return {kind: len(shape) for kind, shape in zip(hidden, shapes)}
 
 
 def making_fault(face, thing):
     """The fields of the BadMaking that is due of a right face, None of a making of it."""
-    hidden, deeds = face
-    if not is_tuple_of(thing, 2, 2):
+    if not isinstance(thing, tuple) or len(thing) != 2:
         return (None, None)
+    hidden, deeds = face
     shapes, bodies = thing
-    if not is_tuple_of(shapes, len(hidden), len(hidden)):
+    if not isinstance(shapes, tuple) or len(shapes) != len(hidden):
         return ("shapes", None)
-    if not is_tuple_of(bodies, len(deeds), len(deeds)):
+    if not isinstance(bodies, tuple) or len(bodies) != len(deeds):
         return ("bodies", None)
+    # How many fields each hidden kind has; what isn't found there is a plain kind, of one field.
+    counts = {}
     for number, shape in enumerate(shapes):
         if not is_shape(shape):
             return ("shapes", number)
-    for number, body in enumerate(bodies):
-        if not is_body_of(body, face, shapes, deeds[number]):
+        counts[hidden[number]] = len(shape)
+    for number, (name, takes, gives) in enumerate(deeds):
+        if left_by_body(bodies[number], takes, counts, counts.get(gives, 1), MOST_DEEP, MOST_PARTS) < 0:
             return ("bodies", number)
     return None
 
@@ -68,13 +67,25 @@ def is_making(face, thing):
     return making_fault(face, thing) is None
 
 
-def need_making(face, making):
-    """Refuse what is no face, then what is no making of it."""
-    need_face(face)
+def refuse_no_making(face, making):
+    """Refuse what is no making of a right face."""
     fault = making_fault(face, making)
     if fault is not None:
         part, number = fault
         raise BadMaking(part, number)
+
+
+def need_making(face, making):
+    """Refuse what is no face, then what is no making of it."""
+    need_face(face)
+    refuse_no_making(face, making)
+
+
+def need_makings(face, one, other):
+    """Refuse what is no face, then what is no making of it: the one, then the other."""
+    need_face(face)
+    refuse_no_making(face, one)
+    refuse_no_making(face, other)
 
 
 def shape_of(face, making, kind):

@@ -2,31 +2,33 @@
 
 from sameface.exprs import INNER_COUNTS, MOST_DEEP, MOST_PARTS
 from sameface.faces import need_face
-from sameface.makings import bounds_for, field_counts, is_shape, need_making
+from sameface.makings import field_counts, is_shape, need_making
 from sameface.rows import need_no_more, row_at, rows_of
-from sameface.words import is_whole, number_of
+from sameface.words import number_of
 
 
-def given_words(expressions):
-    """The words behind a "give"."""
-    words = words_in(expressions[0])
-    for expression in expressions[1:]:
-        words.append(",")
-        words.extend(words_in(expression))
-    return words
+def expression_text(expression):
+    """The words of an E."""
+    word = expression[0]
+    if word == "number":
+        return str(expression[1])
+    if word == "in":
+        return f"in {expression[1]} {expression[2]}"
+    first = expression_text(expression[1])
+    if word == "rest":
+        return f"rest {first} {expression[2]}"
+    if word == "if":
+        return f"if {first} {expression_text(expression[2])} {expression_text(expression[3])}"
+    return f"{word} {first} {expression_text(expression[2])}"
 
 
-def words_in(part):
-    """The words of an E or a body."""
-    if part[0] == "number":
-        return [str(part[1])]
-    words = [part[0]]
-    if part[0] == "give":
-        words.extend(given_words(part[1]))
-        return words
-    for thing in part[1:]:
-        words.extend([str(thing)] if is_whole(thing) else words_in(thing))
-    return words
+def body_text(body):
+    """The words of a body."""
+    if body[0] == "refuse":
+        return "refuse"
+    if body[0] == "give":
+        return "give " + " , ".join([expression_text(expression) for expression in body[1]])
+    return f"when {expression_text(body[1])} {body_text(body[2])} {body_text(body[3])}"
 
 
 def making_text(face, making):
@@ -36,7 +38,7 @@ def making_text(face, making):
     for kind, shape in zip(face[0], making[0]):
         rows.append(" ".join(["shape", kind] + [str(bound) for bound in shape]))
     for deed, body in zip(face[1], making[1]):
-        rows.append(" ".join([deed[0]] + words_in(body)))
+        rows.append(f"{deed[0]} {body_text(body)}")
     return "\n".join(rows)
 
 
@@ -52,11 +54,12 @@ class BodyReader:
     def begin_part(self, deep, stands):
         """Go by the first word of a part; refused where it can't stand, or the part is one too many or too deep."""
         self.parts += 1
-        return self.row.take(stands and self.parts <= MOST_PARTS and deep <= MOST_DEEP)
+        self.row.take(stands and self.parts <= MOST_PARTS and deep <= MOST_DEEP)
 
     def read_body(self, deep):
         """A body that is so deep within the whole one."""
-        word = self.begin_part(deep, self.row.seen() in ("give", "refuse", "when"))
+        word = self.row.seen()
+        self.begin_part(deep, word in ("give", "refuse", "when"))
         if word == "refuse":
             return ("refuse",)
         if word == "give":
@@ -76,24 +79,21 @@ class BodyReader:
     def read_expression(self, deep):
         """An E that is so deep within the whole body."""
         word = self.row.seen()
-        number = number_of(word)
-        self.begin_part(deep, number is not None or word in ("in", "rest") or word in INNER_COUNTS)
-        if number is not None:
-            return ("number", number)
         if word == "in":
-            return self.read_in()
-        first = self.read_expression(deep + 1)
+            self.begin_part(deep, True)
+            thing = self.row.take_number(0, len(self.counts) - 1)
+            return ("in", thing, self.row.take_number(0, self.counts[thing] - 1))
         if word == "rest":
+            self.begin_part(deep, True)
+            first = self.read_expression(deep + 1)
             return ("rest", first, self.row.take_number(2, 99))
-        inner = [first]
-        while len(inner) < INNER_COUNTS[word]:
-            inner.append(self.read_expression(deep + 1))
-        return (word, *inner)
-
-    def read_in(self):
-        """An E of what is handed in, behind its word "in"."""
-        thing = self.row.take_number(0, len(self.counts) - 1)
-        return ("in", thing, self.row.take_number(0, self.counts[thing] - 1))
+        if word in INNER_COUNTS:
+            self.begin_part(deep, True)
+            inner = [self.read_expression(deep + 1) for place in range(INNER_COUNTS[word])]
+            return (word, *inner)
+        number = number_of(word)
+        self.begin_part(deep, number is not None)
+        return ("number", number)
 
 
 def read_shape(row, kind):
@@ -108,12 +108,11 @@ def read_shape(row, kind):
     return shape
 
 
-def read_deed_body(row, face, shapes, deed):
-    """The body of a deed, read from its row."""
+def read_deed_body(row, deed, counts):
+    """The body of a deed, read from its row, by how many fields hidden kinds have."""
     name, takes, gives = deed
     row.take_word(name)
-    many = len(bounds_for(face, shapes, gives))
-    body = BodyReader(row, field_counts(face, shapes, takes), many).read_body(1)
+    body = BodyReader(row, [counts.get(kind, 1) for kind in takes], counts.get(gives, 1)).read_body(1)
     row.close()
     return body
 
@@ -126,9 +125,10 @@ def read_making(face, text):
     shapes = []
     for kind in hidden:
         shapes.append(read_shape(row_at(rows, len(shapes) + 1), kind))
+    counts = field_counts(hidden, shapes)
     bodies = []
     for deed in deeds:
         row = row_at(rows, len(shapes) + len(bodies) + 1)
-        bodies.append(read_deed_body(row, face, shapes, deed))
+        bodies.append(read_deed_body(row, deed, counts))
     need_no_more(rows, len(shapes) + len(bodies))
     return (tuple(shapes), tuple(bodies))

@@ -4,7 +4,7 @@ from sameface.coming import ComeTo
 from sameface.errors import OutOfPlace, TooGreat
 from sameface.faces import deed_number
 from sameface.levels import Levels, sizes_at, user_by
-from sameface.makings import need_making
+from sameface.makings import need_makings
 from sameface.relations import deed_keeps, is_relation, places_for
 from sameface.ways import paired_ways
 
@@ -75,12 +75,6 @@ class Together:
         if self.apart_by is None:
             return None
         return user_by(self.face, self.found, self.apart_by)
-
-
-def need_makings(face, one, other):
-    """Refuse what is no face, then what is no making of it: the one, then the other."""
-    need_making(face, one)
-    need_making(face, other)
 
 
 def together_by(face, one, other):

@@ -1,7 +1,7 @@
 """Texts read row by row, and rows read word by word."""
 
 from sameface.errors import BadRow
-from sameface.words import is_among, number_of, words_of
+from sameface.words import number_of, words_of
 
 
 def rows_of(text):
@@ -32,22 +32,20 @@ class Row:
         if words is None:
             raise BadRow(number, 0)
         self.number = number
-        self.words = words
+        # None stands behind the last word, and can stand nowhere.
+        self.words = [*words, None]
         self.at = 0
 
     def seen(self):
         """The next word, None where words lack."""
-        if self.at == len(self.words):
-            return None
         return self.words[self.at]
 
     def take(self, stands):
         """The next word, gone by; refused where it is said that it can't stand."""
         if not stands:
             raise BadRow(self.number, self.at + 1)
-        word = self.seen()
         self.at += 1
-        return word
+        return self.words[self.at - 1]
 
     def take_word(self, word):
         """Go by the next word, which must be this one."""
@@ -56,7 +54,7 @@ class Row:
     def take_number(self, least, most):
         """The number that is the next word, gone by."""
         number = number_of(self.seen())
-        self.take(is_among(number, least, most))
+        self.take(number is not None and least <= number <= most)
         return number
 
     def close(self):

@@ -1,7 +1,7 @@
 """Papers of two makings, looked at: by deeds and users alone, not by what comes together."""
 
 from sameface.errors import BadPaper
-from sameface.makings import need_making
+from sameface.makings import need_makings
 from sameface.relations import deed_keeps, is_relation
 from sameface.running import outcome_of
 from sameface.users import user_fault
@@ -26,8 +26,7 @@ def check_relation(face, one, other, relation):
 
 def check_paper(face, one, other, paper):
     """Refuse what is no right paper of two makings."""
-    need_making(face, one)
-    need_making(face, other)
+    need_makings(face, one, other)
     if not is_tuple_of(paper, 2, 2):
         raise BadPaper(None)
     word, told = paper

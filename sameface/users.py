@@ -1,7 +1,7 @@
 """Users of a face."""
 
 from sameface.errors import BadUser
-from sameface.faces import find_deed, gives_of, need_face
+from sameface.faces import find_deed, need_face
 from sameface.words import is_among, is_tuple_of, is_whole
 
 MOST_ROWS = 200
@@ -74,4 +74,4 @@ def need_user(face, user):
 def kind_told(face, user):
     """The kind that the last row's deed gives."""
     need_user(face, user)
-    return gives_of(face, user[-1][0])
+    return face[1][find_deed(face, user[-1][0])][2]

@@ -1,17 +1,19 @@
 """Whole numbers, names, and the words of texts."""
 
-LETTERS = "abcdefghijklmnopqrstuvwxyz"
-FIGURES = "0123456789"
-
 
 def is_whole(thing):
     """Whether anything is a whole number; True and False are none."""
-    return isinstance(thing, int) and not isinstance(thing, bool)
+    return isinstance(thing, int) and thing is not True and thing is not False
 
 
 def is_among(thing, least, most):
     """Whether anything is a whole number from the least to the most."""
     return is_whole(thing) and is_whole(least) and is_whole(most) and least <= thing <= most
+
+
+def is_below(thing, bound):
+    """Whether anything is a whole number from 0 below a bound, which is a number."""
+    return isinstance(thing, int) and 0 <= thing < bound and thing is not True and thing is not False
 
 
 def is_tuple_of(thing, least, most):
@@ -21,9 +23,7 @@ def is_tuple_of(thing, least, most):
 
 def is_name(thing):
     """Whether anything is one to eight small letters."""
-    if not isinstance(thing, str) or not 1 <= len(thing) <= 8:
-        return False
-    return all(sign in LETTERS for sign in thing)
+    return isinstance(thing, str) and len(thing) <= 8 and thing.isalpha() and thing.islower() and thing.isascii()
 
 
 def is_next_name(thing, ahead):
@@ -34,9 +34,7 @@ def is_next_name(thing, ahead):
 def number_by_figures(word, most):
     """The number of a word of one to so many figures, or None, of anything as a word."""
     # Its length is looked at first: Python refuses to read numbers of thousands of figures.
-    if not isinstance(word, str) or not 1 <= len(word) <= most:
-        return None
-    if not all(sign in FIGURES for sign in word):
+    if not isinstance(word, str) or len(word) > most or not word.isdigit() or not word.isascii():
         return None
     if word[0] == "0" and word != "0":
         return None

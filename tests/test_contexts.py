@@ -204,6 +204,7 @@ class BadStepsTest(FieldsCase):
         for place in (*ODD_THINGS, -1, 1, 2, "0", (0,), deep_thing(50000)):
             self.bad(0, (("ask", place, (2,)),))
             self.bad(0, (("back", place, ()),))
+            self.bad(0, (("back", place, (0,)),))
         self.bad(0, (("make", 0, ()),), kind="a")
         self.bad(0, (("new", 0, ()),))
 
@@ -245,7 +246,8 @@ class BadStepsTest(FieldsCase):
         self.bad(0, (("mix", 0, (0,)),), face, making, "a", (0,))
 
     def test_behind_a_plain_kind(self):
-        for step in (ASK, BACK, None, [], deep_thing(50000)):
+        # "ask" gives 4, which "make" takes.
+        for step in (ASK, BACK, ("make", 0, ()), None, [], deep_thing(50000)):
             self.bad(1, (ASK, step))
             self.bad(3, (BACK, TURN, ASK, step, None))
 

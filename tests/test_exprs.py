@@ -1,7 +1,8 @@
+import random
 import unittest
 
 from sameface.exprs import depth_in, given_by, is_body, parts_in, value_of
-from tests.helpers import ODD_THINGS, deep_thing
+from tests.helpers import ODD_THINGS, body, deep_thing
 
 COUNTS = (2, 1)
 FIELDS = ((7, -4), (3,))
@@ -42,6 +43,7 @@ BAD_EXPRESSIONS = (
     number(-1),
     number(100),
     number(True),
+    number(False),
     number(None),
     number("1"),
     number(ONE),
@@ -56,6 +58,7 @@ BAD_EXPRESSIONS = (
     ("in", 0, -1),
     ("in", True, 0),
     ("in", 0, True),
+    ("in", 0, False),
     ("in", False, 0),
     ("in", 0, None),
     ("in", "0", 0),
@@ -78,6 +81,10 @@ BAD_EXPRESSIONS = (
     ("if", ONE, True, ONE),
     ("if", ONE, ONE, GIVE),
     ("none", ONE, ONE),
+    ("none", ONE, 5),
+    ("none", 0, 0),
+    ("none", 5),
+    ("none", ONE, ONE, ONE),
     ("Plus", ONE, ONE),
     ("", ONE, ONE),
     (None, ONE, ONE),
@@ -165,6 +172,7 @@ class BodyTest(unittest.TestCase):
         others = (*others, ("when",), ("when", ONE), ("when", ONE, GIVE), ("when", ONE, GIVE, GIVE, GIVE))
         others = (*others, ["when", ONE, GIVE, GIVE], ("when", GIVE, GIVE, GIVE), ("when", ONE, ONE, GIVE))
         others = (*others, ("when", ONE, GIVE, ONE), ("when", ONE, ["refuse"], GIVE), ("call", "a", (), GIVE))
+        others = (*others, ("none", (ONE,)), ("refuse", (ONE,)), ("none", ONE, GIVE, GIVE), ("give", ONE, GIVE, GIVE))
         for thing in others:
             self.body(False, thing)
             self.body(False, ("when", ONE, thing, GIVE))
@@ -186,6 +194,26 @@ class BodyTest(unittest.TestCase):
             self.body(deep <= 8, body)
             body = ("when", ONE, REFUSE, body)
 
+    def test_each_word_at_the_last_depth(self):
+        # The "give" is 1 deep, chains are 2 and on: at 8 a number may stand, and nothing that has an E in it.
+        for inner in (("rest", ONE, 5), ("plus", ONE, ONE), ("if", ONE, ONE, ONE)):
+            for deep in (5, 6, 7):
+                for place in (1, 2, 3):
+                    thing = inner
+                    for step in range(deep - 2):
+                        parts = ["if", ONE, ONE, ONE]
+                        parts[place] = thing
+                        thing = tuple(parts)
+                    self.assertEqual(depth_in(("give", (thing,))), deep + 1)
+                    self.body(deep < 8, ("give", (thing,)))
+                    self.body(deep < 7, ("when", ONE, REFUSE, ("give", (thing,))))
+                    self.body(deep < 8, ("when", thing, REFUSE, REFUSE))
+            thing = inner
+            for step in range(6):
+                thing = ("if", thing, ONE, ONE)
+            self.body(False, ("give", (thing,)))
+            self.body(False, ("when", thing, REFUSE, REFUSE))
+
     def test_great(self):
         for parts, body in ((58, full(58)), (59, with_rest(full(58))), (60, with_rest(with_rest(full(58))))):
             self.assertEqual(parts_in(body), parts)
@@ -194,6 +222,16 @@ class BodyTest(unittest.TestCase):
             self.assertEqual(parts_in(body), 61)
             self.assertLessEqual(depth_in(body), 8)
             self.body(False, body)
+
+    def test_as_great_and_as_deep_as_they_are(self):
+        rng = random.Random(11)
+        told = set()
+        for step in range(3000):
+            thing = body(rng, COUNTS, 2, rng.randint(6, 10))
+            great, deep = parts_in(thing) > 60, depth_in(thing) > 8
+            told.add((great, deep))
+            self.body(not great and not deep, thing, many=2)
+        self.assertEqual(len(told), 4)
 
     def test_thousands_deep(self):
         self.assertIs(is_body(("give", (deep_thing(100000),)), COUNTS, 1), False)

@@ -5,6 +5,7 @@ from sameface.errors import BadFace, BadMaking, OutOfPlace
 from sameface.makings import body_of, is_making, is_worth, need_making, shape_of, worths_of
 from sameface.makingtext import making_text
 from tests.helpers import FACE, MAKING, ODD_THINGS, FieldsCase, deep_thing
+from tests.test_exprs import full, with_rest
 
 SMALL = (("box",), (("new", (), "box"), ("see", ("box", 3), 2)))
 REFUSE = ("refuse",)
@@ -104,6 +105,10 @@ class MakingTest(FieldsCase):
         self.assertIs(is_making(SMALL, small((2,), deep)), True)
         self.no_making(SMALL, small((2,), ("give", (deep_thing(7),))), "bodies", 1)
         self.no_making(SMALL, small((2,), ("give", (deep_thing(50000),))), "bodies", 1)
+
+    def test_sixty_parts(self):
+        for see, told in ((full(58), True), (with_rest(with_rest(full(58))), True), (full(61), False)):
+            self.assertIs(is_making(SMALL, small((2,), see)), told)
 
     def test_no_face_goes_ahead(self):
         for face in (None, (), (FACE[0], ())):

@@ -1,0 +1,88 @@
+"""A face and its makings are looked at once, ahead of all, however many rows, worths and deeds are asked of."""
+
+import unittest
+from unittest import mock
+
+from sameface import faces, makings
+from sameface.alike import are_alike, classes_of
+from sameface.coming import come_to, first_user, level_of, way_of
+from sameface.contexts import first_context, is_telling
+from sameface.doing import done
+from sameface.fewer import fewer_making
+from sameface.leading import is_good, leads, need_good
+from sameface.leaks import is_silent, leaks, leans, needed
+from sameface.leastmaking import least_making
+from sameface.makings import body_of, is_worth, shape_of, worths_of
+from sameface.makingtext import making_text
+from sameface.related import apart, is_same, keeps, least_relation
+from sameface.running import outcome
+from sameface.samecheck import check_paper
+from sameface.samepaper import same_paper
+from tests.helpers import FACE, MAKING
+
+USER = (("new", ()), ("add", (0, 1)), ("add", (1, 0)), ("key", ()), ("open", (2, 3)))
+STEPS = (("add", 0, (0,)), ("open", 0, (0,)))
+EMPTY = ((), ())
+LEADING = (tuple(range(12)), (0,))
+
+# What is asked of a face and a making, and of a face and two makings, with all that is handed in behind.
+OF_ONE = (
+    (shape_of, "bag"),
+    (worths_of, "bag"),
+    (is_worth, "bag", (0, 0)),
+    (body_of, "add"),
+    (making_text,),
+    (done, "new", ()),
+    (outcome, USER),
+    (come_to, "bag"),
+    (level_of, "bag", (3, 1)),
+    (way_of, "bag", (3, 1)),
+    (first_user, "bag", (3, 1)),
+    (are_alike, "bag", (3, 1), (0, 0)),
+    (classes_of, "bag"),
+    (first_context, "bag", (3, 1), (0, 0)),
+    (is_telling, "bag", (3, 1), (0, 0), STEPS),
+    (least_making,),
+    (fewer_making, ("add",)),
+    (leaks, ("open",)),
+    (leans, ("open",), "bag", STEPS),
+    (is_silent, ("open",)),
+    (needed,),
+)
+OF_TWO = (
+    (least_relation,),
+    (is_same,),
+    (apart,),
+    (keeps, EMPTY, "add"),
+    (same_paper,),
+    (check_paper, ("apart", USER)),
+    (check_paper, ("same", EMPTY)),
+    (leads,),
+    (is_good, LEADING),
+    (need_good, LEADING),
+)
+
+
+class LooksTest(unittest.TestCase):
+    def looks(self, call, *handed):
+        """How often a face, and how often a making is looked at."""
+        face_looks = mock.patch.object(faces, "face_fault", wraps=faces.face_fault)
+        making_looks = mock.patch.object(makings, "making_fault", wraps=makings.making_fault)
+        with face_looks as of_face, making_looks as of_making:
+            try:
+                call(*handed)
+            except ValueError:
+                self.assertIs(call, check_paper)
+        return of_face.call_count, of_making.call_count
+
+    def test_of_one_making(self):
+        for call, *more in OF_ONE:
+            self.assertEqual(self.looks(call, FACE, MAKING, *more), (1, 1), call)
+
+    def test_of_two_makings(self):
+        for call, *more in OF_TWO:
+            self.assertEqual(self.looks(call, FACE, MAKING, MAKING, *more), (1, 2), call)
+
+
+if __name__ == "__main__":
+    unittest.main()
