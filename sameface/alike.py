@@ -27,6 +27,7 @@ class Classes:
         self.come = come
         deeds = come.face[1]
         self.tables = [come.table(number) for number in range(len(deeds))]
+        self.told = {}
         self.groupings = [{kind: [0] * come.found.known[kind] for kind in come.face[0]}]
         self.groupings.append(self.next_grouping(list(range(len(deeds)))))
         # A number that is told parts at the first step: further ones are parted by what is given of hidden kinds.
@@ -34,13 +35,15 @@ class Classes:
         while self.groupings[-1] != self.groupings[-2]:
             self.groupings.append(self.next_grouping(onward))
 
-    def told_by_classes(self, number, grouping):
-        """What a deed gives for all ways, with classes' numbers for worths' numbers."""
+    def told_by_classes(self, number, depth):
+        """What a deed gives for all ways, with classes' numbers of the grouping of this depth for worths' numbers."""
         gives = self.come.face[1][number][2]
         if is_whole(gives):
             return self.tables[number]
-        classes = grouping[gives]
-        return [None if told is None else classes[told] for told in self.tables[number]]
+        # Kept: of each two worths of a making a context may be asked.
+        if (number, depth) not in self.told:
+            self.told[(number, depth)] = by_classes(self.tables[number], self.groupings[depth][gives])
+        return self.told[(number, depth)]
 
     def next_grouping(self, numbers):
         """The classes as one step more tells them apart, a step with a deed of these."""
@@ -50,7 +53,7 @@ class Classes:
             takes = self.come.face[1][number][1]
             sizes = sizes_at(takes, self.come.found.known)
             strides = strides_of(sizes)
-            table = self.told_by_classes(number, grouping)
+            table = self.told_by_classes(number, len(self.groupings) - 1)
             for place, kind in enumerate(takes):
                 if not is_whole(kind):
                     for thing in range(sizes[place]):
@@ -73,6 +76,11 @@ class Classes:
         for worth, number in enumerate(classes):
             members[number].append(worth)
         return members
+
+
+def by_classes(table, classes):
+    """What a table has, with the classes' numbers of worths for the worths' own."""
+    return [None if told is None else classes[told] for told in table]
 
 
 def classes_by(marks):

@@ -57,19 +57,27 @@ def deed_of_step(come, taken, step):
     return come.face[1][number]
 
 
-def need_steps(come, kind, steps):
-    """Refuse what are no steps for a hidden kind."""
-    if not is_tuple_of(steps, 1, MOST_STEPS):
-        raise BadSteps(None)
+def steps_fault(come, kind, thing):
+    """The field, in a tuple, of the BadSteps that is due of anything, None of steps for a hidden kind."""
+    if not is_tuple_of(thing, 1, MOST_STEPS):
+        return (None,)
     taken = kind
-    for number, step in enumerate(steps):
+    for number, step in enumerate(thing):
         deed = deed_of_step(come, taken, step)
         if deed is None:
-            raise BadSteps(number)
+            return (number,)
         taken = deed[2]
+    return None
 
 
-def parting_at(classes, grouping, number, place, one, other):
+def need_steps(come, kind, steps):
+    """Refuse what are no steps for a hidden kind."""
+    fault = steps_fault(come, kind, steps)
+    if fault is not None:
+        raise BadSteps(fault[0])
+
+
+def parting_at(classes, depth, number, place, one, other):
     """The first number, among all ways to hand a deed other things beside x at a place, of one that parts x's.
 
     It does, if the deed is refused with just one of the two x, or gives two numbers or worths of two classes.
@@ -77,7 +85,7 @@ def parting_at(classes, grouping, number, place, one, other):
     """
     sizes = sizes_at(classes.come.face[1][number][1], classes.come.found.known)
     stride = strides_of(sizes)[place]
-    table = classes.told_by_classes(number, grouping)
+    table = classes.told_by_classes(number, depth)
     first = piece_of(table, one, stride, sizes[place])
     second = piece_of(table, other, stride, sizes[place])
     if first == second:
@@ -85,12 +93,15 @@ def parting_at(classes, grouping, number, place, one, other):
     return [told == beside for told, beside in zip(first, second)].index(False)
 
 
-def first_parting(classes, grouping, kind, one, other):
-    """The least step that parts two worths of a kind, by their numbers, and the kind that it gives."""
+def first_parting(classes, depth, kind, one, other):
+    """The least step that parts two worths of a kind, by their numbers, and the kind that it gives.
+
+    Worths that are given are parted if they are in two classes of the grouping of this depth.
+    """
     for number, (name, takes, gives) in enumerate(classes.come.face[1]):
         for place, taken in enumerate(takes):
             if taken == kind:
-                at = parting_at(classes, grouping, number, place, one, other)
+                at = parting_at(classes, depth, number, place, one, other)
                 if at is not None:
                     ways = all_ways(sizes_at(others_of(takes, place), classes.come.found.known))
                     return (name, place, ways[at]), gives
@@ -104,8 +115,8 @@ def context_of(classes, kind, one, other):
     steps = []
     # So few steps as tell them apart: each brings them to two that one step less tells apart.
     fewest = classes.fewest_steps(kind, numbers[kind][one], numbers[kind][other])
-    for grouping in classes.groupings[fewest - 1 :: -1]:
-        step, gives = first_parting(classes, grouping, kind, numbers[kind][one], numbers[kind][other])
+    for depth in range(fewest - 1, -1, -1):
+        step, gives = first_parting(classes, depth, kind, numbers[kind][one], numbers[kind][other])
         steps.append(step)
         one = stepped(come, step, one)
         other = stepped(come, step, other)

@@ -12,14 +12,19 @@ def deed_row(deed):
     return " ".join([str(word) for word in words])
 
 
-def face_text(face):
-    """The text of a face."""
-    need_face(face)
+def face_rows(face):
+    """The rows of a right face's text, a list."""
     hidden, deeds = face
     rows = [" ".join(["hidden", *hidden])]
     for deed in deeds:
         rows.append(deed_row(deed))
-    return "\n".join(rows)
+    return rows
+
+
+def face_text(face):
+    """The text of a face."""
+    need_face(face)
+    return "\n".join(face_rows(face))
 
 
 def read_hidden(row):
@@ -61,13 +66,18 @@ def read_deed(row, hidden, ahead):
     return (name, takes, gives)
 
 
+def read_face_behind(rows, ahead):
+    """The face of all rows behind the first so many."""
+    hidden = read_hidden(row_at(rows, ahead + 1))
+    # The second row is asked for even where it lacks: a face has a deed.
+    deeds = [read_deed(row_at(rows, ahead + 2), hidden, "")]
+    most = ahead + 1 + MOST_DEEDS
+    for number in range(ahead + 3, min(len(rows), most) + 1):
+        deeds.append(read_deed(row_at(rows, number), hidden, deeds[-1][0]))
+    need_no_more(rows, most)
+    return (hidden, tuple(deeds))
+
+
 def read_face(text):
     """The face of a text."""
-    rows = rows_of(text)
-    hidden = read_hidden(row_at(rows, 1))
-    # The second row is asked for even where it lacks: a face has a deed.
-    deeds = [read_deed(row_at(rows, 2), hidden, "")]
-    for number in range(3, min(len(rows), MOST_DEEDS + 1) + 1):
-        deeds.append(read_deed(row_at(rows, number), hidden, deeds[-1][0]))
-    need_no_more(rows, MOST_DEEDS + 1)
-    return (hidden, tuple(deeds))
+    return read_face_behind(rows_of(text), 0)

@@ -27,7 +27,7 @@ def least_making(face, making):
     leaders = {kind: [worths[0] for worths in members[kind]] for kind in face[0]}
     tables = []
     for number, deed in enumerate(face[1]):
-        told = classes.told_by_classes(number, classes.groupings[-1])
+        told = classes.told_by_classes(number, len(classes.groupings) - 1)
         places = places_of_ways(deed[1], sizes_at(deed[1], come.found.known), leaders)
         tables.append(tuple([told[place] for place in places]))
     return (tuple([len(members[kind]) for kind in face[0]]), tuple(tables))

@@ -187,6 +187,67 @@ def with_more(rng, face, making, number):
     return (shapes, tuple(bodies))
 
 
+def chance_program(rng, most_rows=12):
+    """A chance program, most often of some rows, over chance faces."""
+    labels = rng.sample(("one", "two", "three", "four"), rng.choice((1, 1, 2, 2, 3)))
+    first = chance_face(rng)
+    uses = tuple((label, first if rng.random() < 0.4 else chance_face(rng)) for label in labels)
+    inputs = tuple(rng.choice((2, 2, 3, 4)) for place in range(rng.randrange(4)))
+    kinds = {}
+    rows = []
+
+    def args_of(wanted):
+        """The ARGs that may stand for a kind, a plain one or (LABEL, KIND); of numbers the least two."""
+        told = [("name", name) for name, kind in kinds.items() if kind == wanted]
+        if isinstance(wanted, int):
+            told += [("name", name) for name, kind in kinds.items() if isinstance(kind, int) and kind < wanted]
+            told += [("input", at) for at, kind in enumerate(inputs) if kind <= wanted] * 3
+            told += [("number", number) for number in range(wanted)][:2]
+        return told
+
+    for step in range(rng.randrange(most_rows * 2)):
+        name = "".join(rng.sample("abcdefgh", rng.randint(1, 3)))
+        chance = rng.random()
+        if len(rows) == most_rows or name in kinds:
+            continue
+        if chance < 0.15:
+            rows.append(("say", rng.choice(args_of(9))))
+        elif chance < 0.3:
+            wanted = rng.choice([9, *kinds.values()])
+            first, second = rng.choice(args_of(wanted)), rng.choice(args_of(wanted))
+            rows.append(("pick", name, rng.choice(args_of(9)), first, second))
+            told = {"name": kinds.get, "number": lambda n: n + 1, "input": inputs.__getitem__}
+            both = [told[arg[0]](arg[1]) for arg in (first, second)]
+            kinds[name] = both[0] if isinstance(both[0], tuple) else max(both)
+        else:
+            label, face = rng.choice(uses)
+            deed, takes, gives = rng.choice(face[1])
+            choices = [args_of(kind if isinstance(kind, int) else (label, kind)) for kind in takes]
+            if all(choices):
+                rows.append(("let", name, label, deed, tuple(rng.choice(args) for args in choices)))
+                kinds[name] = gives if isinstance(gives, int) else (label, gives)
+    return (uses, inputs, tuple(rows))
+
+
+def spoilt(rng, thing):
+    """A thing with a small part of it exchanged, most often for one that can't be."""
+    if isinstance(thing, tuple) and thing and rng.random() < 0.85:
+        at = rng.randrange(len(thing))
+        chance = rng.random()
+        if chance < 0.04:
+            return thing[:at] + thing[at + 1 :]
+        if chance < 0.08:
+            return thing[: at + 1] + thing[at:]
+        if chance < 0.1:
+            return tuple(reversed(thing))
+        return thing[:at] + (spoilt(rng, thing[at]),) + thing[at + 1 :]
+    if isinstance(thing, int):
+        return rng.choice((thing - 1, thing + 1, thing + 1, bool(thing), None, thing))
+    if isinstance(thing, tuple):
+        return rng.choice((list(thing), None, (), (thing,), (*thing, 0), thing))
+    return rng.choice(("a", "b", "", None, 1, f"{thing}a", thing))
+
+
 class Plainly:
     """What is come to, or comes together, found as the document says it, without any haste.
 

@@ -64,6 +64,11 @@ INTERFACE = {
     "fewer": "fewer_face(face, names) fewer_making(face, making, names)",
     "leaks": "leaks(face, making, names) leans(face, making, names, kind, steps) is_silent(face, making, names) "
     "needed(face, making)",
+    "leakcheck": "leak_paper(face, making, names) check_leaks(face, making, names, paper)",
+    "programs": "is_arg(thing) is_row(thing)",
+    "kinds": "need_program(program) is_program(program) kinds_in(program)",
+    "progtext": "program_text(program) read_program(text)",
+    "answering": "run(program, makings, inputs) parts_at(program, makings, others)",
 }
 
 

@@ -5,15 +5,19 @@ from unittest import mock
 
 from sameface import faces, makings
 from sameface.alike import are_alike, classes_of
+from sameface.answering import parts_at, run
 from sameface.coming import come_to, first_user, level_of, way_of
 from sameface.contexts import first_context, is_telling
 from sameface.doing import done
 from sameface.fewer import fewer_making
+from sameface.kinds import is_program, kinds_in, need_program
+from sameface.leakcheck import check_leaks, leak_paper
 from sameface.leading import is_good, leads, need_good
 from sameface.leaks import is_silent, leaks, leans, needed
 from sameface.leastmaking import least_making
 from sameface.makings import body_of, is_worth, shape_of, worths_of
 from sameface.makingtext import making_text
+from sameface.progtext import program_text
 from sameface.related import apart, is_same, keeps, least_relation
 from sameface.running import outcome
 from sameface.samecheck import check_paper
@@ -48,6 +52,8 @@ OF_ONE = (
     (leans, ("open",), "bag", STEPS),
     (is_silent, ("open",)),
     (needed,),
+    (leak_paper, ("open",)),
+    (check_leaks, ("open",), leak_paper(FACE, MAKING, ("open",))),
 )
 OF_TWO = (
     (least_relation,),
@@ -78,6 +84,13 @@ class LooksTest(unittest.TestCase):
     def test_of_one_making(self):
         for call, *more in OF_ONE:
             self.assertEqual(self.looks(call, FACE, MAKING, *more), (1, 1), call)
+
+    def test_of_programs(self):
+        program = ((("x", FACE), ("y", FACE)), (2, 3), (("let", "a", "x", "new", ()),) + (("say", ("input", 0)),) * 9)
+        for call in (need_program, is_program, kinds_in, program_text):
+            self.assertEqual(self.looks(call, program), (2, 0), call)
+        self.assertEqual(self.looks(run, program, (MAKING, MAKING), (1, 2)), (2, 2))
+        self.assertEqual(self.looks(parts_at, program, (MAKING, MAKING), (MAKING, MAKING)), (2, 4))
 
     def test_of_two_makings(self):
         for call, *more in OF_TWO:
