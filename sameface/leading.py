@@ -6,11 +6,16 @@ from sameface.related import together_by
 from sameface.words import is_among, is_tuple_of
 
 
+def refuse_told_apart(together):
+    """Refuse two makings that aren't the same, by what comes together."""
+    if together.apart_by is not None:
+        raise ToldApart(together.first_apart())
+
+
 def same_together(face, one, other):
     """What comes together by two makings that must be the same."""
     together = together_by(face, one, other)
-    if together.apart_by is not None:
-        raise ToldApart(together.first_apart())
+    refuse_told_apart(together)
     return together
 
 

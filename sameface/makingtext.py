@@ -8,12 +8,14 @@ from sameface.words import number_of
 
 
 def expression_text(expression):
-    """The words of an E."""
+    """The words of an E, or of a W."""
     word = expression[0]
     if word == "number":
         return str(expression[1])
     if word == "in":
         return f"in {expression[1]} {expression[2]}"
+    if word == "got":
+        return f"got {expression[1]}"
     first = expression_text(expression[1])
     if word == "rest":
         return f"rest {first} {expression[2]}"
@@ -22,24 +24,42 @@ def expression_text(expression):
     return f"{word} {first} {expression_text(expression[2])}"
 
 
+def parted_text(expressions):
+    """The words of some Es and Ws, "," between."""
+    return " , ".join([expression_text(expression) for expression in expressions])
+
+
 def body_text(body):
-    """The words of a body."""
+    """The words of a body, of a making or of a module."""
     if body[0] == "refuse":
         return "refuse"
     if body[0] == "give":
-        return "give " + " , ".join([expression_text(expression) for expression in body[1]])
-    return f"when {expression_text(body[1])} {body_text(body[2])} {body_text(body[3])}"
+        return f"give {parted_text(body[1])}"
+    if body[0] == "when":
+        return f"when {expression_text(body[1])} {body_text(body[2])} {body_text(body[3])}"
+    handed = f" {parted_text(body[2])}" if body[2] else ""
+    return f"call {body[1]}{handed} {body_text(body[3])}"
+
+
+def field_text(field):
+    """The words of a field: of a bound, or of ("of", KIND)."""
+    return str(field) if isinstance(field, int) else f"of {field[1]}"
+
+
+def making_rows(face, making):
+    """The rows of the text of a right making of a face, or of a right module of it, a list."""
+    rows = []
+    for kind, shape in zip(face[0], making[0]):
+        rows.append(" ".join(["shape", kind] + [field_text(field) for field in shape]))
+    for deed, body in zip(face[1], making[1]):
+        rows.append(f"{deed[0]} {body_text(body)}")
+    return rows
 
 
 def making_text(face, making):
     """The text of a making."""
     need_making(face, making)
-    rows = []
-    for kind, shape in zip(face[0], making[0]):
-        rows.append(" ".join(["shape", kind] + [str(bound) for bound in shape]))
-    for deed, body in zip(face[1], making[1]):
-        rows.append(f"{deed[0]} {body_text(body)}")
-    return "\n".join(rows)
+    return "\n".join(making_rows(face, making))
 
 
 class BodyReader:
@@ -76,13 +96,17 @@ class BodyReader:
             given.append(self.read_expression(deep))
         return tuple(given)
 
+    def read_in(self):
+        """What stands behind "in", where an E is wanted."""
+        thing = self.row.take_number(0, len(self.counts) - 1)
+        return ("in", thing, self.row.take_number(0, self.counts[thing] - 1))
+
     def read_expression(self, deep):
         """An E that is so deep within the whole body."""
         word = self.row.seen()
         if word == "in":
             self.begin_part(deep, True)
-            thing = self.row.take_number(0, len(self.counts) - 1)
-            return ("in", thing, self.row.take_number(0, self.counts[thing] - 1))
+            return self.read_in()
         if word == "rest":
             self.begin_part(deep, True)
             first = self.read_expression(deep + 1)

@@ -24,9 +24,8 @@ def check_relation(face, one, other, relation):
             raise BadPaper(number)
 
 
-def check_paper(face, one, other, paper):
-    """Refuse what is no right paper of two makings."""
-    need_makings(face, one, other)
+def check_rightly(face, one, other, paper):
+    """Refuse what is no right paper of two right makings."""
     if not is_tuple_of(paper, 2, 2):
         raise BadPaper(None)
     word, told = paper
@@ -37,3 +36,9 @@ def check_paper(face, one, other, paper):
             raise BadPaper(len(told))
     else:
         raise BadPaper(None)
+
+
+def check_paper(face, one, other, paper):
+    """Refuse what is no right paper of two makings."""
+    need_makings(face, one, other)
+    check_rightly(face, one, other, paper)

@@ -6,13 +6,15 @@ from sameface.users import MOST_ROWS, may_be_handed, need_user
 from sameface.words import number_by_figures
 
 
+def user_rows(user):
+    """The rows of a right user's text, a list."""
+    return [" ".join([name] + [str(thing) for thing in handed]) for name, handed in user]
+
+
 def user_text(face, user):
     """The text of a user."""
     need_user(face, user)
-    rows = []
-    for name, handed in user:
-        rows.append(" ".join([name] + [str(thing) for thing in handed]))
-    return "\n".join(rows)
+    return "\n".join(user_rows(user))
 
 
 def read_handed(row, takes, given):

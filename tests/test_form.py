@@ -69,6 +69,15 @@ INTERFACE = {
     "kinds": "need_program(program) is_program(program) kinds_in(program)",
     "progtext": "program_text(program) read_program(text)",
     "answering": "run(program, makings, inputs) parts_at(program, makings, others)",
+    "modules": "is_module(upper, lower, thing) need_module(upper, lower, thing) "
+    "done_over(upper, lower, module, making, name, handed) flat_over(upper, lower, module, making, kind, worth)",
+    "inlining": "inlined(upper, lower, module, making) put_into(top, upper, lower, first, module)",
+    "overpaper": "come_over(upper, lower, module, making, kind) is_same_over(upper, lower, module, one, other) "
+    "are_lifted(upper, lower, module, one, other, relation, kind, first, second) "
+    "over_paper(upper, lower, module, one, other) check_over(upper, lower, module, one, other, paper)",
+    "moduletext": "module_text(upper, lower, module) read_module(upper, lower, text)",
+    "house": "House",
+    "desk": "Desk answers(lines)",
 }
 
 
@@ -142,6 +151,8 @@ class FormTest(unittest.TestCase):
             for node in ast.walk(tree):
                 if isinstance(node, ast.ImportFrom):
                     known |= {name.name for name in node.names}
+                elif isinstance(node, ast.ExceptHandler):
+                    known.add(node.name)
             for node in ast.walk(tree):
                 if isinstance(node, ast.Name):
                     self.assertIn(node.id, known, path)
@@ -206,18 +217,50 @@ class FormTest(unittest.TestCase):
                         self.assertIn(node, places, (path, node.lineno))
 
     def test_calls_pass_what_is_taken(self):
-        taken = {}
+        functions, methods = {}, {}
+        for path, text in files():
+            tree = ast.parse(text)
+            for node in tree.body:
+                if isinstance(node, ast.FunctionDef):
+                    functions.setdefault(node.name, set()).add(len(node.args.args))
+                elif isinstance(node, ast.ClassDef):
+                    for row in node.body:
+                        if isinstance(row, ast.FunctionDef):
+                            methods.setdefault(row.name, set()).add(len(row.args.args) - 1)
+        for path, text in files():
+            for node in ast.walk(ast.parse(text)):
+                if isinstance(node, ast.Call) and isinstance(node.func, ast.Name) and node.func.id in functions:
+                    self.assertEqual({len(node.args)}, functions[node.func.id], (path, node.lineno))
+                elif isinstance(node, ast.Call) and isinstance(node.func, ast.Attribute) and node.func.attr in methods:
+                    if node.func.attr != "__init__":
+                        self.assertEqual({len(node.args)}, methods[node.func.attr], (path, node.lineno))
+
+    def test_a_caught_errors_name_is_its_own(self):
         for path, text in files():
             for node in ast.walk(ast.parse(text)):
                 if isinstance(node, ast.FunctionDef):
-                    taken.setdefault(node.name, set()).add(len(node.args.args))
-        for path, text in files():
-            for node in ast.walk(ast.parse(text)):
-                if isinstance(node, ast.Call) and isinstance(node.func, ast.Name) and node.func.id in taken:
-                    self.assertEqual({len(node.args)}, taken[node.func.id], (path, node.lineno))
-                elif isinstance(node, ast.Call) and isinstance(node.func, ast.Attribute) and node.func.attr in taken:
-                    if node.func.attr != "__init__":
-                        self.assertEqual({len(node.args) + 1}, taken[node.func.attr], (path, node.lineno))
+                    parts = list(ast.walk(node))
+                    caught = [part.name for part in parts if isinstance(part, ast.ExceptHandler) and part.name]
+                    names = [part for part in parts if isinstance(part, ast.Name)]
+                    stored = [part.id for part in names if isinstance(part.ctx, ast.Store)]
+                    self.assertEqual(len(caught), len(set(caught)), path)
+                    self.assertEqual(set(caught) & set(stored), set(), path)
+
+    def test_methods_of_the_interface(self):
+        for stem, name, methods in (
+            (
+                "house",
+                "House",
+                "__init__(self, uses) uses_now(self) names_held(self) kind_of(self, name) alike_held(self, one, other) "
+                "give_name(self, name, label, deed, handed) ask_deed(self, label, deed, handed) drop_name(self, name) "
+                "change(self, label, making) looked(self)",
+            ),
+            ("desk", "Desk", "__init__(self) say(self, line) answers(self, lines)"),
+        ):
+            tree = ast.parse((PACKAGE / f"{stem}.py").read_text(encoding="utf-8"))
+            found = [node for node in tree.body if isinstance(node, ast.ClassDef) and node.name == name][0]
+            defined = {f"{row.name}({ast.unparse(row.args)})" for row in found.body if isinstance(row, ast.FunctionDef)}
+            self.assertLessEqual(set(re.findall(r"[a-zA-Z_]+\([^)]*\)", methods)), defined, stem)
 
     def test_interface(self):
         for stem, names in INTERFACE.items():
