@@ -6,7 +6,7 @@ from sameface.house import House
 from sameface.leaks import needed
 from sameface.leastmaking import least_making
 from sameface.lines import in_a_line, told_in
-from sameface.makingtext import making_rows, read_making
+from sameface.makingtext import making_rows, read_making_of
 from sameface.related import apart
 from sameface.usertext import user_rows
 
@@ -38,7 +38,7 @@ def answer_change(house, told):
     """The answer to "change LABEL MAKING"."""
     label, text = told
     face, making = use_of(house, label)
-    house.change(label, read_making(face, text))
+    house.change(label, read_making_of(face, text))
     return DONE
 
 
@@ -123,7 +123,7 @@ def house_of(uses):
     read = []
     for label, face_told, making_told in uses:
         face = read_face(face_told)
-        read.append((label, face, read_making(face, making_told)))
+        read.append((label, face, read_making_of(face, making_told)))
     return House(tuple(read))
 
 

@@ -141,9 +141,8 @@ def read_deed_body(row, deed, counts):
     return body
 
 
-def read_making(face, text):
-    """The making of a face by its text."""
-    need_face(face)
+def read_making_of(face, text):
+    """The making of a right face by its text."""
     hidden, deeds = face
     rows = rows_of(text)
     shapes = []
@@ -156,3 +155,9 @@ def read_making(face, text):
         bodies.append(read_deed_body(row, deed, counts))
     need_no_more(rows, len(shapes) + len(bodies))
     return (tuple(shapes), tuple(bodies))
+
+
+def read_making(face, text):
+    """The making of a face by its text."""
+    need_face(face)
+    return read_making_of(face, text)

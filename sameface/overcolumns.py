@@ -40,7 +40,8 @@ def column_over(over, body, columns, many, wants):
     if body[0] == "refuse":
         return [None] * many
     if body[0] == "give":
-        return list(zip(*wanted_columns(body[1], wants, columns, many)))
+        fields = wanted_columns(body[1], wants, columns, many)
+        return list(zip(*fields))
     if body[0] == "when":
         condition = column_of(body[1], columns, many)
         first = column_over(over, body[2], columns, many, wants)

@@ -63,8 +63,8 @@ def read_uses(rows):
     """The USES, read from the first rows, and how many these are."""
     use, gone = read_use(rows, 0)
     uses = [use]
-    # Where a row lacks, it is the one of the inputs: that is asked for behind this.
-    while len(uses) < MOST_USES and gone < len(rows) and row_at(rows, gone + 1).seen() == "use":
+    # Where a row lacks here, it is the one of the inputs.
+    while len(uses) < MOST_USES and row_at(rows, gone + 1).seen() == "use":
         use, gone = read_use(rows, gone)
         uses.append(use)
     return tuple(uses), gone

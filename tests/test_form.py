@@ -235,6 +235,41 @@ class FormTest(unittest.TestCase):
                     if node.func.attr != "__init__":
                         self.assertEqual({len(node.args)}, methods[node.func.attr], (path, node.lineno))
 
+    def test_no_local_name_is_a_class_or_an_import(self):
+        for path, text in files():
+            tree = ast.parse(text)
+            taken = {node.name for node in tree.body if isinstance(node, ast.ClassDef)}
+            for node in tree.body:
+                if isinstance(node, ast.ImportFrom):
+                    taken |= {name.asname or name.name for name in node.names}
+            for node in ast.walk(tree):
+                if isinstance(node, ast.Name) and isinstance(node.ctx, ast.Store):
+                    self.assertNotIn(node.id, taken, (path, node.lineno))
+                elif isinstance(node, ast.arg):
+                    self.assertNotIn(node.arg, taken, (path, node.lineno))
+
+    def test_behind_stars_of_calls(self):
+        for path, text in files():
+            for node in ast.walk(ast.parse(text)):
+                if isinstance(node, ast.Call):
+                    for part in node.args:
+                        if isinstance(part, ast.Starred):
+                            self.assertIsInstance(part.value, (ast.Name, ast.Attribute), (path, node.lineno))
+                    self.assertTrue(all(word.arg in ("key", "default", "reverse") for word in node.keywords), path)
+
+    def test_no_two_files_import_each_other(self):
+        imports = {}
+        for path, text in files():
+            froms = [node.module for node in ast.parse(text).body if isinstance(node, ast.ImportFrom)]
+            imports[f"sameface.{path.stem}"] = set(froms)
+        for start in imports:
+            seen, waiting = set(), [start]
+            while waiting:
+                for name in imports[waiting.pop()] - seen:
+                    seen.add(name)
+                    waiting.append(name)
+            self.assertNotIn(start, seen)
+
     def test_a_caught_errors_name_is_its_own(self):
         for path, text in files():
             for node in ast.walk(ast.parse(text)):

@@ -248,12 +248,13 @@ class TooGreatTest(FieldsCase):
             self.great(self.first((("of", "b"),), see=see), self.module((2,), ask=lower), due)
 
     def test_much_too_great(self):
-        # Six calls, each of which goes on at eight places: it is refused at once.
-        whens = ("give", (("in", 0, 0),))
+        # Seven calls, each of which goes on at fourteen places: it is refused at once, not behind millions of bodies.
+        whens = give = ("give", (("in", 0, 0),))
         for step in range(3):
             whens = ("when", ("in", 0, 0), whens, whens)
-        see = ("give", (("got", 5),))
-        for step in range(6):
+        whens = ("when", ("in", 0, 0), whens, ("when", ("in", 0, 0), whens[2], ("when", ("in", 0, 0), give, give)))
+        see = REFUSE
+        for step in range(7):
             see = ("call", "ask", (("in", 0, 0),), see)
         self.great(self.first((("of", "b"),), see=see), self.module((2,), ask=whens), True)
         # And an E that would have millions of parts.
@@ -362,6 +363,13 @@ class RefusedTest(FieldsCase):
             self.refuses(BadFace, nothing, put_into, UPPER, LOWER, thing, thing, thing)
             self.refuses(BadModule, nothing, put_into, UPPER, LOWER, BOTTOM, thing, thing)
             self.refuses(BadModule, nothing, put_into, UPPER, LOWER, BOTTOM, upper, thing)
+        faces = ((UPPER[0], ()), ((), LOWER[1]), None)
+        for at, fields in enumerate(({"part": "deeds"}, {"part": "hidden"}, {"part": None})):
+            told = [UPPER, LOWER, BOTTOM][:at] + list(faces[at:])
+            self.refuses(BadFace, fields, put_into, *told, None, None)
+            right = [UPPER, LOWER, BOTTOM]
+            right[at] = faces[at]
+            self.refuses(BadFace, fields, put_into, *right, upper, LOWER_MAKING)
         # Each fault by its own place: the first module's bodies ahead of the second one's shapes.
         bad_first, bad_second = (upper[0], (*upper[1][:4], None)), (((1,), (2,)), LOWER_MAKING[1])
         fields = {"part": "bodies", "number": 4}

@@ -359,6 +359,7 @@ class CheckTest(FieldsCase):
                     (one, one, steps),
                     (list(one), other, steps),
                     (tuple(map(bool, one)), other, steps),
+                    (one, tuple(map(bool, other)), steps),
                     (one, (4,), steps),
                     (one, other, list(steps)),
                     (one, other, ()),

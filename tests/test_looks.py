@@ -9,6 +9,7 @@ from sameface.alike import are_alike, classes_of
 from sameface.answering import parts_at, run
 from sameface.coming import come_to, first_user, level_of, way_of
 from sameface.contexts import first_context, is_telling
+from sameface.desk import Desk
 from sameface.doing import done
 from sameface.fewer import fewer_making
 from sameface.house import House
@@ -124,6 +125,16 @@ class LooksTest(unittest.TestCase):
         self.assertEqual(self.looks(house.ask_deed, "a", "see", ("x",)), (0, 0))
         self.assertEqual(self.looks(house.alike_held, "x", "x"), (0, 0))
         self.assertEqual(self.looks(house.change, "a", BITS), (0, 1))
+
+    def test_of_a_desk(self):
+        desk = Desk()
+        begin = "begin a hidden a / new : a / see a : 2 ; shape a 2 / new give 0 / see give 1"
+        self.assertEqual(self.looks(desk.say, begin), (1, 0))
+        self.assertEqual(self.looks(desk.say, "x = a new"), (0, 0))
+        self.assertEqual(self.looks(desk.say, "ask a see x"), (0, 0))
+        self.assertEqual(self.looks(desk.say, "change a shape a 2 / new give 1 / see give 1"), (0, 1))
+        self.assertEqual(self.looks(desk.say, "least a"), (1, 1))
+        self.assertEqual(self.looks(desk.say, "same a a"), (1, 2))
 
     def looks(self, call, *handed):
         """How often a face, and how often a making is looked at."""

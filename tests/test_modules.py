@@ -206,6 +206,59 @@ class ModuleTest(FieldsCase):
         self.bad_body(0, ("when", ("in", 2, 1), REFUSE, REFUSE))
         self.right_body(0, ("when", ("in", 1, 0), REFUSE, REFUSE))
 
+    def test_es_by_their_form(self):
+        one = ("in", 0, 0)
+        for told in (
+            ("number", 0),
+            ("number", 99),
+            ("rest", one, 2),
+            ("rest", one, 99),
+            ("if", one, one, one),
+            *[(word, one, one) for word in ("plus", "less", "times", "same", "under")],
+        ):
+            self.right_body(4, ("give", (told,)))
+            self.right_body(4, ("when", told, REFUSE, REFUSE))
+            self.right_body(4, ("give", (("plus", told, told),)))
+        for told in (
+            ("number",),
+            ("number", -1),
+            ("number", 100),
+            ("number", True),
+            ("number", None),
+            ("number", 1, 1),
+            ("numbers", 1),
+            ("rest", one),
+            ("rest", one, 1),
+            ("rest", one, 100),
+            ("rest", one, True),
+            ("rest", one, None),
+            ("rest", one, one),
+            ("rest", 2, one),
+            ("rest", one, 2, 2),
+            ("rests", one, 2),
+            ("plus", one),
+            ("plus", one, one, one),
+            ("plus", one, 2),
+            ("plus",),
+            ("pluss", one, one),
+            ("if", one, one),
+            ("if", one, one, one, one),
+            ("iff", one, one, one),
+            ("when", one, one, one),
+            (None, one, one),
+            (["plus"], one, one),
+            ("in", 0, 0, 0),
+            ("in", 0),
+            ("got", 0),
+            ("of", "cell"),
+            [one],
+            {},
+        ):
+            self.bad_body(4, ("give", (told,)))
+            self.bad_body(4, ("when", told, REFUSE, REFUSE))
+            self.bad_body(4, ("give", (("plus", told, one),)))
+            self.bad_body(4, ("give", (("if", one, one, told),)))
+
     def test_where_a_w_is_wanted(self):
         self.right_body(0, ("give", (("in", 0, 0), NUMBER, ("in", 0, 2))))
         self.right_body(0, get(("in", 0, 0), REFUSE))
@@ -245,6 +298,9 @@ class ModuleTest(FieldsCase):
         self.bad_body(0, get(("in", 0, 0), ("give", (("got", 0), NUMBER, tag))))
         self.bad_body(0, mark(NUMBER, ("give", (("got", 0), NUMBER, tag))))
         self.right_body(0, mark(NUMBER, ("give", (("in", 0, 0), NUMBER, ("got", 0)))))
+        for told in (("got",), ("gott", 0), ("in", 0), ("got", 0, 0), (None, 0), ["got", 0]):
+            self.bad_body(0, make(get(told, REFUSE)))
+            self.bad_body(0, make(("give", (told, NUMBER, tag))))
         # Not in its own ARGS, nor behind it, beside it.
         self.bad_body(0, get(("got", 0), REFUSE))
         self.bad_body(0, mark(("got", 0), REFUSE))
