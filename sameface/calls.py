@@ -19,9 +19,11 @@ def brought_by(thing, room, got):
     Room has the fields of each thing that is handed in, got what each call around brings.
     """
     if thing[0] == "in" and len(thing) == 3:
-        number, field = thing[1:]
-        if is_below(number, len(room)) and is_below(field, len(room[number])):
-            return room[number][field]
+        word, number, field = thing
+        # Most parts are these: so is_below is written out.
+        if isinstance(number, int) and isinstance(field, int) and 0 <= number < len(room):
+            if number is not True and number is not False and field is not True and field is not False:
+                return room[number][field] if 0 <= field < len(room[number]) else None
     elif thing[0] == "got" and len(thing) == 2 and is_below(thing[1], len(got)):
         return got[thing[1]]
     return None

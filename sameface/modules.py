@@ -39,9 +39,11 @@ def module_fault(upper, lower, thing):
     for number, shape in enumerate(shapes):
         if not are_fields(shape, lower[0]):
             return ("shapes", number)
+    fields = dict(zip(upper[0], shapes))
     for number, (name, takes, gives) in enumerate(upper[1]):
-        room = [bounds_for(upper, shapes, kind) for kind in takes]
-        if not is_calling(bodies[number], room, bounds_for(upper, shapes, gives), lower):
+        # What isn't found there is a plain kind: a number below it.
+        room = [fields.get(kind, (kind,)) for kind in takes]
+        if not is_calling(bodies[number], room, fields.get(gives, (gives,)), lower):
             return ("bodies", number)
     return None
 
@@ -86,8 +88,16 @@ class Over:
         self.lower = lower
         self.module = module
         self.making = making
-        # What lower deeds gave: they are asked of the same again and again.
+        # Bodies as they are gone through, and what lower deeds gave: these are asked of the same again and again.
+        self.bodies = {}
         self.given = {}
+
+    def body_for(self, number):
+        """The body of the upper deed of this number, in which what calls bring is handed in behind all else."""
+        if number not in self.bodies:
+            many = len(self.upper[1][number][1])
+            self.bodies[number] = with_things_behind(self.module[1][number], many)
+        return self.bodies[number]
 
     def fields_of(self, kind):
         """The fields of an upper kind; a number of a plain kind N is one field below N."""
@@ -146,7 +156,7 @@ class Over:
         """What the upper deed of this number gives, handed what it can be handed; None where it is refused."""
         takes, gives = self.upper[1][number][1:]
         things = [(thing,) if isinstance(kind, int) else thing for kind, thing in zip(takes, handed)]
-        given = self.given_by_body(with_things_behind(self.module[1][number], len(takes)), things)
+        given = self.given_by_body(self.body_for(number), things)
         if given is None:
             return None
         worth = []

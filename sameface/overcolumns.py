@@ -1,6 +1,5 @@
 """What a module's deeds give over a making on many ways at once: a column has a thing for each way."""
 
-from sameface.calls import with_things_behind
 from sameface.columns import chosen, column_of, handed_columns
 from sameface.faces import find_deed
 
@@ -54,8 +53,8 @@ def told_over(over, number, ways, things):
     if not ways:
         return []
     takes, gives = over.upper[1][number][1:]
-    body = with_things_behind(over.module[1][number], len(takes))
-    given = column_over(over, body, handed_columns(takes, ways, things), len(ways), over.fields_of(gives))
+    columns = handed_columns(takes, ways, things)
+    given = column_over(over, over.body_for(number), columns, len(ways), over.fields_of(gives))
     if isinstance(gives, int):
         return [None if fields is None else fields[0] for fields in given]
     return given
