@@ -25,9 +25,9 @@ def called_column(over, body, columns, many):
 
 def column_behind(over, body, columns, told, wants):
     """For each way what the body behind a call gives, by what the call brings; None where that is refused."""
-    going = [at for at, thing in enumerate(told) if thing is not None]
-    kept = [[[column[at] for at in going] for column in thing] for thing in columns]
-    kept.append([[told[at] for at in going]])
+    going = [way for way, thing in enumerate(told) if thing is not None]
+    kept = [[[column[way] for way in going] for column in thing] for thing in columns]
+    kept.append([[told[way] for way in going]])
     given = [None] * len(told)
     for at, fields in zip(going, column_over(over, body, kept, len(going), wants)):
         given[at] = fields
