@@ -1,4 +1,5 @@
 import random
+import re
 import unittest
 
 from sameface.desk import Desk, answers
@@ -394,6 +395,32 @@ class NoLineTest(DeskCase):
             "change abcdefghi x",
             "say x",
         )
+
+    def test_as_the_document_says(self):
+        # Words by chance: which are a line is told by patterns.
+        name, thing = "[a-z]{1,8}", "([a-z]{1,8}|[0-8])"
+        lines = "drop N|ask N N( T)*|names|face N|making N|alike N N|same N N|least N|needed N|looked"
+        lines = lines.replace("N", name).replace("T", thing)
+        words = "begin drop change ask names face making alike same least needed looked".split(" ")
+        others = "= = ; / a a x x box 8 9 0 A abcdefghi 10 :".split(" ") + [""]
+        rng = random.Random(91)
+        met = 0
+        for step in range(20000):
+            told = [rng.choice(words if rng.random() < 0.7 else others)]
+            told += [rng.choice(others) for place in range(rng.randrange(7))]
+            line = " ".join(told)
+            pieces = line[6:].split(" ; ")
+            if told[1:2] == ["="]:
+                due = re.fullmatch(f"{name} = {name} {name}( {thing})*", line)
+            elif told[0] == "change":
+                due = re.fullmatch(f"change {name} .*", line)
+            elif told[0] == "begin":
+                due = len(told) > 1 and len(pieces) % 2 == 0 and all(re.match(f"{name} ", p) for p in pieces[::2])
+            else:
+                due = re.fullmatch(lines, line)
+            met += bool(due)
+            self.assertEqual(Desk().say(line) != "no line", bool(due), line)
+        self.assertGreater(met, 500)
 
     def test_any_number_of_things(self):
         self.behind(("x = box add " + " ".join(["x", "0", "8"] * 40), "refused outofplace"))

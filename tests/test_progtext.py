@@ -1,11 +1,12 @@
 import random
+import re
 import unittest
 
 from sameface.errors import BadProgram, BadRow
 from sameface.facetext import face_text, read_face
 from sameface.kinds import is_program
 from sameface.progtext import program_text, read_program
-from tests.helpers import ODD_THINGS, FieldsCase, chance_program, deep_thing, spoilt
+from tests.helpers import ODD_THINGS, FieldsCase, chance_program, deep_thing
 from tests.test_programs import CELL, PAIR, let, name, number, pick, put, say
 
 ROWS = (
@@ -27,6 +28,106 @@ TEXT = "\n".join(
 )
 FACE = read_face("hidden a\nnew : a")
 SHORT = "use b\nhidden a\nnew : a\ninputs"
+
+
+SPOILS = [*"use inputs let pick say : a hidden b 2 9 0 8 $0 $3 10 new".split(" "), ""]
+
+
+def spoilt_text(rng, text):
+    """A text with a word or a row exchanged, put in, or left out."""
+    rows = text.split("\n")
+    at, chance = rng.randrange(len(rows)), rng.random()
+    words = rows[at].split(" ")
+    place = rng.randrange(len(words))
+    if chance < 0.6:
+        words[place : place + rng.choice((0, 1))] = [rng.choice(SPOILS)] if chance < 0.45 else []
+        rows[at] = " ".join(words)
+    elif chance < 0.7:
+        del rows[at]
+    elif chance < 0.8:
+        rows.insert(at, rng.choice(rows))
+    elif chance < 0.9:
+        rows = rows[:at]
+    else:
+        rows += [rng.choice(rows)] * rng.choice((1, 1, 31))
+    return "\n".join(rows)
+
+
+class WontStand(Exception):
+    """A row and its first word that can't stand."""
+
+
+class PlainReader:
+    """Reads a program's text as the document says it: what each word of a row must match."""
+
+    name, arg, kind = "[a-z]{1,8}", r"[a-z]{1,8}|[0-8]|\$[0-2]", "[2-9]"
+
+    def __init__(self, text):
+        self.rows = text.split("\n")
+        self.at = 0
+
+    def words(self):
+        """The words of the next row."""
+        if self.at >= len(self.rows):
+            raise WontStand(self.at + 1, 1)
+        words = self.rows[self.at].split(" ")
+        if "" in words:
+            raise WontStand(self.at + 1, 0)
+        return words
+
+    def match(self, wanted, more=()):
+        """The words of the next row, gone by: so many wanted, and perhaps some more."""
+        words = self.words()
+        self.at += 1
+        for place, pattern in enumerate(wanted):
+            if place >= len(words) or not re.fullmatch(pattern, words[place]):
+                raise WontStand(self.at, place + 1)
+        for place in range(len(wanted), len(words)):
+            if place - len(wanted) >= len(more) or not re.fullmatch(more[place - len(wanted)], words[place]):
+                raise WontStand(self.at, place + 1)
+        return words
+
+    def face(self):
+        """The face of the next rows."""
+        start = self.at
+        self.at += 1
+        while self.at < len(self.rows) and not self.is_behind_faces(self.rows[self.at].split(" ")):
+            self.at += 1
+        if start >= len(self.rows):
+            raise WontStand(start + 1, 1)
+        try:
+            return read_face("\n".join(self.rows[start : self.at]))
+        except BadRow as refusal:
+            raise WontStand(start + refusal.row, refusal.word)
+
+    def is_behind_faces(self, words):
+        return "" not in words and ":" not in words
+
+    def read_arg(self, word):
+        if word[0] == "$":
+            return put(int(word[1:]))
+        return number(int(word)) if word.isdigit() else name(word)
+
+    def read(self):
+        uses = []
+        while not uses or (len(uses) < 4 and self.words()[0] == "use"):
+            label = self.match(["use", self.name])[1]
+            uses.append((label, self.face()))
+        inputs = tuple(int(word) for word in self.match(["inputs"], [self.kind] * 3)[1:])
+        rows = []
+        while self.at < len(self.rows):
+            word = self.words()[0]
+            if word not in ("let", "pick", "say") or len(rows) == 30:
+                raise WontStand(self.at + 1, 1)
+            if word == "let":
+                words = self.match([word, self.name, self.name, self.name], [self.arg] * 3)
+                rows.append((*words[:4], tuple(map(self.read_arg, words[4:]))))
+            elif word == "pick":
+                words = self.match([word, self.name, self.arg, self.arg, self.arg])
+                rows.append((*words[:2], *map(self.read_arg, words[2:])))
+            else:
+                rows.append((word, self.read_arg(self.match([word, self.arg])[1])))
+        return (tuple(uses), inputs, tuple(rows))
 
 
 class WrittenTest(FieldsCase):
@@ -257,18 +358,22 @@ class ReadTest(FieldsCase):
         self.bad(44, 0, HEAD + rows + "\nsay  0")
         self.bad(43, 2, HEAD + "\nsay 0" * 29 + "\nsay ?\nsay 0\nsay 0")
 
-    def test_spoilt_texts_are_read_or_refused(self):
+    def test_as_the_document_says(self):
         rng = random.Random(65)
-        for step in range(400):
-            words = TEXT.split(" ")
-            spoil = spoilt(rng, tuple(words))
-            text = " ".join([str(word) for word in spoil]) if isinstance(spoil, tuple) else TEXT
+        met = {"read": 0, "refused": 0}
+        for step in range(1500):
+            text = program_text(chance_program(rng, 8))
+            for again in range(rng.randrange(4)):
+                text = spoilt_text(rng, text)
             try:
-                program = read_program(text)
-            except BadRow:
-                continue
-            if is_program(program):
-                self.assertEqual(program_text(program), text)
+                due = PlainReader(text).read()
+            except WontStand as place:
+                met["refused"] += 1
+                self.bad(*place.args, text)
+            else:
+                met["read"] += 1
+                self.same_form(read_program(text), due)
+        self.assertGreater(min(met.values()), 300)
 
 
 if __name__ == "__main__":
